@@ -1,0 +1,30 @@
+"""Tables of groups: lists of rows of numbers, with at i, j the thing to which things i and j are joined."""
+
+from splitbooks.values import is_listing, is_number_within
+
+MOST_GROUP = 16
+
+
+def _is_number_table(value):
+    """Whether value is a list of n rows of n numbers from 0 to n - 1, n from 1 to the limit."""
+    if not is_listing(value) or not is_number_within(len(value), 1, MOST_GROUP):
+        return False
+    for row in value:
+        if not is_listing(row) or len(row) != len(value):
+            return False
+        if not all([is_number_within(item, 0, len(value) - 1) for item in row]):
+            return False
+    return True
+
+
+def is_group(value):
+    """Whether value, any value, is the table of a group whose unit is 0."""
+    if not _is_number_table(value):
+        return False
+    things = range(len(value))
+    if not all([value[0][i] == i and value[i][0] == i for i in things]):
+        return False
+    # In a finite table that may be grouped at will, what undoes a thing from one side does so from the other.
+    if not all([0 in row for row in value]):
+        return False
+    return all([value[value[i][j]][k] == value[i][value[j][k]] for i in things for j in things for k in things])

@@ -1,0 +1,76 @@
+"""The interface: names, parameters, and the files that define them."""
+
+import importlib
+import inspect
+import unittest
+
+from splitbooks import families
+
+INTERFACE = {
+    "books": {"what_is_wrong": "prime joins one splits counts"},
+    "doings": {
+        "joined": "book first second", "joined_all": "book things", "split": "book thing", "counted": "book thing",
+        "backed": "book thing", "squares_joined": "book first second", "halves_joined": "book square",
+        "convolved": "book other first second", "unit_map": "book other", "convolved_back": "book other first",
+        "back_undone": "book"},
+    "bases": {
+        "in_basis": "book rows", "coordinates": "book rows thing", "other_way": "book", "joins_turned": "book",
+        "splits_turned": "book", "beside": "one other"},
+    "leadings": {"is_leading": "one other thing", "likeness": "one other", "are_alike": "one other"},
+    "families": {"group_book": "prime table", "shift_book": "prime order root", "slip_book": "prime"},
+    "brackets": {"bracket_book": "prime brackets powers"},
+    "selfsplit": {"is_selfsplit": "book thing", "selfsplit_things": "book", "selfsplit_group": "book"},
+    "betweens": {"betweens": "book first second", "layers": "book"},
+}
+
+
+class InterfaceTest(unittest.TestCase):
+
+    def test_functions(self):
+        for module, functions in INTERFACE.items():
+            held = importlib.import_module("splitbooks." + module)
+            for name, parameters in functions.items():
+                with self.subTest(module=module, name=name):
+                    function = getattr(held, name)
+                    self.assertTrue(inspect.isfunction(function))
+                    self.assertEqual(function.__module__, "splitbooks." + module)
+                    told = inspect.signature(function).parameters.values()
+                    self.assertEqual([part.name for part in told], parameters.split())
+                    for part in told:
+                        self.assertEqual(part.kind, inspect.Parameter.POSITIONAL_OR_KEYWORD)
+                        self.assertIs(part.default, inspect.Parameter.empty)
+
+    def test_splitbook(self):
+        books = importlib.import_module("splitbooks.books")
+        self.assertTrue(inspect.isclass(books.Splitbook))
+        self.assertEqual(books.Splitbook.__module__, "splitbooks.books")
+        self.assertEqual(list(inspect.signature(books.Splitbook).parameters), "prime joins one splits counts".split())
+        self.assertIn("__init__", vars(books.Splitbook))
+        self.assertIn("__eq__", vars(books.Splitbook))
+        book = families.group_book(3, [[0, 1], [1, 0]])
+        self.assertEqual(sorted(vars(book)), sorted("prime size joins one splits counts back".split()))
+
+    def test_parameters_by_name(self):
+        book = families.group_book(table=[[0, 1], [1, 0]], prime=3)
+        values = {"book": book, "one": book, "other": book, "first": (1, 0), "second": (0, 1), "thing": (1, 0),
+                  "things": [(1, 0)], "square": ((1, 0), (0, 1)), "rows": ((1, 0), (1, 1)), "prime": 3, "order": 2,
+                  "root": 2, "table": [[0]], "brackets": [[[0]]], "powers": [[1]]}
+        special = {"convolved": {"first": book.back, "second": book.back}, "convolved_back": {"first": book.back},
+                   "squares_joined": {"first": book.back, "second": book.back}, "betweens": {"second": (1, 0)},
+                   "what_is_wrong": {"joins": [[[1]]], "one": [1], "splits": [[[1]]], "counts": [1]}}
+        for module, functions in INTERFACE.items():
+            held = importlib.import_module("splitbooks." + module)
+            for name, parameters in functions.items():
+                with self.subTest(module=module, name=name):
+                    named = {word: values.get(word) for word in parameters.split()}
+                    named.update(special.get(name, {}))
+                    found = getattr(held, name)(**named)
+                    again = getattr(held, name)(*[named[word] for word in parameters.split()])
+                    self.assertEqual(found, again)
+        books = importlib.import_module("splitbooks.books")
+        self.assertEqual(books.Splitbook(counts=[1], splits=[[[1]]], one=[1], joins=[[[1]]], prime=3),
+                         books.Splitbook(3, [[[1]]], [1], [[[1]]], [1]))
+
+
+if __name__ == "__main__":
+    unittest.main()
