@@ -1,16 +1,15 @@
 """Splitbooks, and the first place where tables are none."""
 
-from splitbooks.errors import BadBook, BadPrime, BadShape
+from splitbooks.errors import BadBook, BadShape
 from splitbooks.faults import back_of, first_fault
-from splitbooks.values import cube_of, is_cube, is_listing, is_number_within, is_prime, is_row, row_of
+from splitbooks.values import cube_of, is_cube, is_listing, is_number_within, is_row, need_prime, row_of
 
 MOST_THINGS = 16
 
 
 def _tables_taken(prime, joins, one, splits, counts):
     """Joins, one, splits and counts modulo the prime, once their shapes are found right."""
-    if not is_prime(prime):
-        raise BadPrime("the prime is none from 2 to 97")
+    need_prime(prime)
     if not is_listing(joins) or not is_number_within(len(joins), 1, MOST_THINGS):
         raise BadShape("joins")
     size = len(joins)

@@ -1,11 +1,10 @@
 """The family of splitbooks that brackets and powers make."""
 
-from splitbooks.checks import need_prime
 from splitbooks.errors import BadBrackets
 from splitbooks.grown import grown_book, pair_square, sum_of_squares
 from splitbooks.linear import across, combined, is_power_above, led_all, plain, unit
 from splitbooks.tables import all_joined
-from splitbooks.values import cube_of, is_cube, is_listing, is_square, rows_of
+from splitbooks.values import cube_of, is_cube, is_listing, is_square, need_prime, rows_of
 
 MOST_WORDS = 16
 
@@ -21,9 +20,11 @@ def _is_alternating(prime, brackets):
     """Whether the bracket of each row with itself is 0."""
     places = range(len(brackets))
     for i in places:
+        if any(brackets[i][i]):
+            return False
         for j in places:
-            both = combined([1, 1], [brackets[i][j], brackets[j][i]], prime)
-            if any(both) or (i == j and any(brackets[i][i])):
+            # The bracket of the sum of things i and j with itself.
+            if any(combined([1, 1], [brackets[i][j], brackets[j][i]], prime)):
                 return False
     return True
 

@@ -1,15 +1,9 @@
 """Refusals that many functions share, and what is handed in as tuples of numbers from 0 to prime - 1."""
 
 from splitbooks.books import Splitbook
-from splitbooks.errors import BadBasis, BadBook, BadMap, BadPrime, BadRow, BadShape, BadSquare, TooMany
+from splitbooks.errors import BadBasis, BadBook, BadMap, BadRow, BadShape, BadSquare, TooMany
 from splitbooks.linear import inverse, is_power_above
-from splitbooks.values import is_map, is_prime, is_row, is_row_list, is_square, row_of, rows_of
-
-
-def need_prime(prime):
-    """BadPrime unless a prime from 2 to 97 is given."""
-    if not is_prime(prime):
-        raise BadPrime("a prime from 2 to 97 is wanted")
+from splitbooks.values import is_map, is_row, is_row_list, is_square, row_of, rows_of
 
 
 def need_book(book):

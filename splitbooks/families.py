@@ -1,12 +1,11 @@
 """Families of splitbooks: of groups, of a factor g and a factor x that shifts, and of one that slips."""
 
 from splitbooks.books import Splitbook
-from splitbooks.checks import need_prime
 from splitbooks.errors import BadGroup, BadNumber
 from splitbooks.groups import is_group
 from splitbooks.grown import grown_book, pair_square, sum_of_squares
 from splitbooks.linear import power, unit
-from splitbooks.values import is_number, is_number_within
+from splitbooks.values import is_number, is_number_within, need_prime
 
 MOST_SLIP = 3
 

@@ -78,7 +78,8 @@ def map_convolved_back(prime, splits, counts, joins, one, first):
     powers = [counts_to_one(prime, counts, one)]
     sums = []
     while not sums:
-        for _ in range(len(powers)):
+        many = len(powers)
+        for _ in range(many):
             powers.append(maps_convolved(prime, splits, joins, powers[-1], first))
         sums = kernel([flat(rows) for rows in powers], prime)
     if sums[0][0] == 0:

@@ -1,5 +1,7 @@
 """What counts as a number, a row, a square and a cube, and what these are modulo a prime."""
 
+from splitbooks.errors import BadPrime
+
 PRIMES = (2, 3, 5, 7, 11, 13, 17, 19, 23, 29, 31, 37, 41, 43, 47, 53, 59, 61, 67, 71, 73, 79, 83, 89, 97)
 
 
@@ -16,6 +18,12 @@ def is_number_within(value, least, most):
 def is_prime(value):
     """Whether value is a prime from 2 to 97."""
     return is_number(value) and value in PRIMES
+
+
+def need_prime(prime):
+    """BadPrime unless a prime from 2 to 97 is given."""
+    if not is_prime(prime):
+        raise BadPrime("a prime from 2 to 97 is wanted")
 
 
 def is_listing(value):

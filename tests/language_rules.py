@@ -165,6 +165,13 @@ def import_faults(source, sources):
     return told
 
 
+def unused_imports(source):
+    """No rule, but of no use either: imported names that the file does not read."""
+    read = {node.id for node in source.nodes(ast.Name)}
+    return [source.told("unused", node, alias.name) for node in source.nodes(ast.ImportFrom)
+            for alias in node.names if alias.name not in read and node.module != "__future__"]
+
+
 def is_docstring(node):
     return isinstance(node, ast.Expr) and isinstance(node.value, ast.Constant) and isinstance(node.value.value, str)
 

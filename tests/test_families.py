@@ -60,6 +60,7 @@ class GroupBookTest(Case):
                 [[0, 1], {0: 1, 1: 0}], [[0, 1], range(2)], [[0, 1], "10"], {0: [0]}, "0", [samples.cyclic(2)],
                 # The unit is not 0; just from one side; no thing undoes thing 1; not to be grouped at will.
                 [[1, 0], [0, 1]], [[0, 1], [0, 1]], [[0, 0], [1, 1]], [[0, 1], [1, 1]], [[0, 1, 2], [1, 1, 1], [2, 2, 2]],
+                [[0, 1, 2], [1, 2, 0], [2, 0, 3]], [[0, 1, 2], [1, 2, 0], [2, 0, 4]], [[0, 1, 2], [1, 2, 0], [2, 0, -2]],
                 [[0, 1, 2], [1, 0, 0], [2, 0, 0]], [[0, 1, 2], [1, 0, 1], [2, 1, 0]],
                 [[0, 1, 2, 3, 4], [1, 0, 3, 4, 2], [2, 4, 0, 1, 3], [3, 2, 4, 0, 1], [4, 3, 1, 2, 0]]]:
             with self.subTest(table=repr(table) if not isinstance(table, samples.Odd) else None):

@@ -80,6 +80,10 @@ class LanguageTest(unittest.TestCase):
     def test_package_keeps_the_rules(self):
         self.assertEqual(language_rules.package_faults(FOLDER), [])
 
+    def test_nothing_is_imported_in_vain(self):
+        for source in language_rules.read_package(FOLDER):
+            self.assertEqual(language_rules.unused_imports(source), [])
+
     def test_broken_code_is_told(self):
         sources = language_rules.read_package(FOLDER)
         for rule, text in BROKEN:
