@@ -3,8 +3,8 @@
 from splitbooks.books import MOST_THINGS, Splitbook
 from splitbooks.checks import basis_of, need_book, need_two_books, thing_of
 from splitbooks.errors import TooMany
-from splitbooks.linear import across, combined, flat, folded, halves_led, led_all
-from splitbooks.tables import all_joined, row_counted, row_split, rows_paired
+from splitbooks.linear import across, combined, cube_led, flat
+from splitbooks.tables import row_counted, rows_paired
 
 
 def in_basis(book, rows):
@@ -12,8 +12,8 @@ def in_basis(book, rows):
     need_book(book)
     prime = book.prime
     rows, undone = basis_of(book, rows)
-    joins = folded(led_all(all_joined(prime, book.joins, rows, rows), undone, prime), book.size)
-    splits = [halves_led(row_split(prime, book.splits, row), undone, undone, prime) for row in rows]
+    joins = cube_led(book.joins, rows, rows, undone, prime)
+    splits = cube_led(book.splits, rows, across(undone), undone, prime)
     counts = [row_counted(prime, book.counts, row) for row in rows]
     return Splitbook(prime, joins, combined(book.one, undone, prime), splits, counts)
 

@@ -2,8 +2,9 @@
 
 from splitbooks.checks import need_book, thing_of
 from splitbooks.errors import BadSelfsplit
-from splitbooks.linear import combined, flat, halves_led, kernel, plain, rest_beyond, tidy_list
+from splitbooks.linear import combined, flat, halves_led, plain, rest_beyond, tidy_list
 from splitbooks.selfsplit import is_selfsplit, selfsplit_things
+from splitbooks.stairs import kernel
 from splitbooks.tables import rows_paired
 
 

@@ -1,7 +1,7 @@
 """Splitbooks, and the first place where tables are none."""
 
 from splitbooks.errors import BadBook, BadShape
-from splitbooks.faults import back_of, first_fault
+from splitbooks.faults import fault_and_back
 from splitbooks.values import cube_of, is_cube, is_listing, is_number_within, is_row, need_prime, row_of
 
 MOST_THINGS = 16
@@ -24,21 +24,10 @@ def _tables_taken(prime, joins, one, splits, counts):
     return cube_of(joins, prime), row_of(one, prime), cube_of(splits, prime), row_of(counts, prime)
 
 
-def _fault_and_back(prime, joins, one, splits, counts):
-    """The tuple of what_is_wrong, or None, and the back, or None if there is something wrong."""
-    fault = first_fault(prime, joins, one, splits, counts)
-    if fault is not None:
-        return fault, None
-    back = back_of(prime, joins, one, splits, counts)
-    if back is None:
-        return ("back",), None
-    return None, back
-
-
 def what_is_wrong(prime, joins, one, splits, counts):
     """None if these tables are a splitbook, otherwise a tuple that tells the first wrong place."""
     joins, one, splits, counts = _tables_taken(prime, joins, one, splits, counts)
-    fault, _ = _fault_and_back(prime, joins, one, splits, counts)
+    fault, _ = fault_and_back(prime, joins, one, splits, counts)
     return fault
 
 
@@ -47,7 +36,7 @@ class Splitbook:
 
     def __init__(self, prime, joins, one, splits, counts):
         joins, one, splits, counts = _tables_taken(prime, joins, one, splits, counts)
-        fault, back = _fault_and_back(prime, joins, one, splits, counts)
+        fault, back = fault_and_back(prime, joins, one, splits, counts)
         if fault is not None:
             raise BadBook(fault)
         self.prime = prime

@@ -2,7 +2,8 @@
 
 from splitbooks.errors import BadBrackets
 from splitbooks.grown import grown_book, pair_square, sum_of_squares
-from splitbooks.linear import across, combined, is_power_above, led_all, plain, unit
+from splitbooks.linear import across, combined, led_all, plain, unit
+from splitbooks.powers import is_power_above
 from splitbooks.tables import all_joined
 from splitbooks.values import cube_of, is_cube, is_listing, is_square, need_prime, rows_of
 
@@ -49,7 +50,7 @@ def _have_powers(prime, brackets, powers):
         rows = things
         for _ in range(prime):
             rows = led_all(rows, leader, prime)
-        if list(rows) != all_joined(prime, brackets, [row], things):
+        if rows != all_joined(prime, brackets, [row], things)[0]:
             return False
     return True
 

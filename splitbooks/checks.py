@@ -2,7 +2,8 @@
 
 from splitbooks.books import Splitbook
 from splitbooks.errors import BadBasis, BadBook, BadMap, BadRow, BadShape, BadSquare, TooMany
-from splitbooks.linear import inverse, is_power_above
+from splitbooks.linear import inverse
+from splitbooks.powers import is_power_above
 from splitbooks.values import is_map, is_row, is_row_list, is_square, row_of, rows_of
 
 

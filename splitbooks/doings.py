@@ -1,10 +1,10 @@
 """What is done with the things of a splitbook, and with maps between splitbooks."""
 
+from splitbooks.backs import map_back
 from splitbooks.checks import map_of, need_book, need_two_books, square_of, thing_of, things_of
 from splitbooks.linear import combined, inverse
 from splitbooks.tables import (
-    counts_to_one, halves_met, map_convolved_back, maps_convolved, row_counted, row_split, rows_joined,
-    squares_met)
+    counts_to_one, halves_met, maps_convolved, row_counted, row_split, rows_joined, squares_met)
 
 
 def joined(book, first, second):
@@ -74,7 +74,7 @@ def convolved_back(book, other, first):
     """The map that, convolved with first in either sequence, is unit_map; None if there is none."""
     need_two_books(book, other)
     first = map_of(book, other, first)
-    return map_convolved_back(book.prime, book.splits, book.counts, other.joins, other.one, first)
+    return map_back(book, other, first)
 
 
 def back_undone(book):

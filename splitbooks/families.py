@@ -4,7 +4,8 @@ from splitbooks.books import Splitbook
 from splitbooks.errors import BadGroup, BadNumber
 from splitbooks.groups import is_group
 from splitbooks.grown import grown_book, pair_square, sum_of_squares
-from splitbooks.linear import power, unit
+from splitbooks.linear import unit
+from splitbooks.powers import power
 from splitbooks.values import is_number, is_number_within, need_prime
 
 MOST_SLIP = 3
@@ -68,5 +69,5 @@ def slip_book(prime):
             # To take x past a factors g leaves, for each of them, one slip from a factors to a + 1.
             row[a * prime + b] += a
             row[(a + 1) % prime * prime + b] -= a
-            led_by_x.append(row)
+            led_by_x.append([number % prime for number in row])
     return _two_makers(prime, prime, led_by_x)

@@ -3,101 +3,136 @@
 Each function takes for granted that the functions above it in the list of point 11 found nothing.
 """
 
-from splitbooks.linear import across, combined, flat, folded, is_sum_of, led_all, plain, tidy_list
-from splitbooks.tables import (
-    firsts_joined, joined_span, map_convolved_back, met_by, row_counted, row_split, rows_joined, rows_paired)
+from splitbooks.agreeing import Agreement
+from splitbooks.grouping import Grouping
+from splitbooks.linear import across, combined, flat, folded, led_all, plain
+from splitbooks.powers import number_undone
+from splitbooks.stairs import kernel
+from splitbooks.tables import row_counted, row_split, rows_paired, turned_cube
 
 
-def joins_fault(prime, joins):
-    """("joins", i, j, k) for the least three things that are joined unlike in both ways, or None."""
-    size = len(joins)
-    rows = flat(joins)
-    # At i * size + j: i joined to j, and this joined to each k.
-    first = led_all(rows, [flat(square) for square in joins], prime)
-    # At j * size + k: each i joined to what j joined to k is.
-    last = led_all(rows, [flat([square[m] for square in joins]) for m in range(size)], prime)
-    first = [folded(row, size) for row in first]
-    last = [folded(row, size) for row in last]
-    for i in range(size):
-        for j in range(size):
-            for k in range(size):
-                if first[i * size + j][k] != last[j * size + k][i]:
-                    return ("joins", i, j, k)
-    return None
+def joined_sides(prime, cube, row):
+    """The two squares of row joined to each thing, and of each thing joined to row."""
+    size = len(cube)
+    first = combined(row, [flat(square) for square in cube], prime)
+    last = combined(row, [flat(rows) for rows in zip(*cube)], prime)
+    return [folded(side, size) for side in (first, last)]
 
 
-def one_fault(prime, joins, one):
+def one_fault(grouping, one):
     """("one", i) for the least thing that one, joined to it from some side, changes, or None."""
-    for i, thing in enumerate(plain(len(joins))):
-        if rows_joined(prime, joins, one, thing) != thing or rows_joined(prime, joins, thing, one) != thing:
-            return ("one", i)
+    if grouping.is_one(one):
+        return None
+    firsts, lasts = joined_sides(grouping.prime, grouping.cube, one)
+    return ("one", least_unlike(firsts, lasts))
+
+
+def counts_fault(grouping, counts):
+    """("counts", i) for the least thing that is not left once halves of its split are counted, or None.
+
+    The grouping is that of the splits, read the other way: what is counted of halves is there joined to counts.
+    """
+    if grouping.is_one(counts):
+        return None
+    firsts, lasts = joined_sides(grouping.prime, grouping.cube, counts)
+    return ("counts", least_unlike(across(firsts), across(lasts)))
+
+
+def least_unlike(firsts, lasts):
+    """The least i for which one of the rows with the index i is not thing i; there is one."""
+    for i, thing in enumerate(plain(len(firsts))):
+        if firsts[i] != thing or lasts[i] != thing:
+            return i
     return None
 
 
-def splits_fault(prime, splits):
-    """("splits", i) for the least thing whose halves split once more into unlike triples, or None."""
+def least_unlike_split(prime, splits):
+    """The least thing whose halves split once more into unlike triples; there is one."""
     flats = [flat(square) for square in splits]
     for i, square in enumerate(splits):
         firsts = led_all(across(square), flats, prime)
         seconds = led_all(square, flats, prime)
         if flat(across(firsts)) != flat(seconds):
-            return ("splits", i)
+            return i
     return None
 
 
-def counts_fault(prime, splits, counts):
-    """("counts", i) for the least thing that is not left once halves of its split are counted, or None."""
-    for i, thing in enumerate(plain(len(splits))):
-        firsts = combined(counts, splits[i], prime)
-        seconds = combined(counts, across(splits[i]), prime)
-        if firsts != thing or seconds != thing:
-            return ("counts", i)
-    return None
-
-
-def _both_fault_of(prime, joins, splits, counts, i, led):
-    """The least ("both", i, j) of this i, or None; led tells firsts_joined of each split."""
-    for j in range(len(joins)):
-        row = joins[i][j]
-        if row_counted(prime, counts, row) != counts[i] * counts[j] % prime:
-            return ("both", i, j)
-        if row_split(prime, splits, row) != met_by(prime, joins, splits[i], led[j]):
-            return ("both", i, j)
-    return None
-
-
-def both_fault(prime, joins, one, splits, counts):
+def both_fault(agreement, one, counts):
     """("both",) or the least ("both", i, j) where splits or counts do not go with joins, or None."""
-    if row_split(prime, splits, one) != rows_paired(prime, one, one) or row_counted(prime, counts, one) != 1:
+    prime = agreement.prime
+    if row_split(prime, agreement.splits, one) != rows_paired(prime, one, one) or row_counted(prime, counts, one) != 1:
         return ("both",)
-    led = [firsts_joined(prime, joins, square) for square in splits]
-    good = []
-    known = tidy_list([one], prime)
-    for i, thing in enumerate(plain(len(joins))):
-        # Where two things go with all others, so does what they are joined to: there is no need to look.
-        if not is_sum_of(thing, known, prime):
-            fault = _both_fault_of(prime, joins, splits, counts, i, led)
-            if fault is not None:
-                return fault
-            good.append(thing)
-            known = joined_span(prime, joins, good, known)
+    # Where two things go with all others, so does what they are joined to: makers are enough.
+    for i in agreement.grouping.makers:
+        faults = []
+        for j, row in enumerate(agreement.joins[i]):
+            if row_counted(prime, counts, row) != counts[i] * counts[j] % prime:
+                faults.append(j)
+        least = agreement.fault_of(i)
+        if least is not None:
+            faults.append(least)
+        if faults:
+            return ("both", i, min(faults))
     return None
 
 
-def first_fault(prime, joins, one, splits, counts):
-    """The first of these that is there, or None; it does not look for the back."""
-    fault = joins_fault(prime, joins)
-    if fault is None:
-        fault = one_fault(prime, joins, one)
-    if fault is None:
-        fault = splits_fault(prime, splits)
-    if fault is None:
-        fault = counts_fault(prime, splits, counts)
-    if fault is None:
-        fault = both_fault(prime, joins, one, splits, counts)
-    return fault
+def swallowed_by(grouping, counts):
+    """The tidy list of the rows that all things, ahead of them, multiply by their counts.
+
+    The makers are enough: what multiplies by its count does so once it is joined to more of this kind.
+    """
+    prime = grouping.prime
+    rows = []
+    for k in range(grouping.size):
+        row = []
+        for maker in grouping.makers:
+            line = list(grouping.cube[maker][k])
+            line[k] = (line[k] - counts[maker]) % prime
+            row.extend(line)
+        rows.append(row)
+    return kernel(rows, prime)
 
 
-def back_of(prime, joins, one, splits, counts):
-    """The back of tables in which first_fault finds nothing; None if there is none."""
-    return map_convolved_back(prime, splits, counts, joins, one, plain(len(joins)))
+def back_of(agreement, telling, one, counts):
+    """The back of tables in which nothing else is wrong; None if there is none.
+
+    If there is one, just one thing, up to a number, is swallowed by all ahead of it, and just one row, read
+    the other way. The back leads a thing to the sum of what the row tells of it, joined to the second halves
+    of the swallowed thing, times the first halves, divided by what the row tells of the swallowed thing.
+    """
+    prime = agreement.prime
+    things = swallowed_by(agreement.grouping, counts)
+    rows = swallowed_by(telling, one)
+    if len(things) != 1 or len(rows) != 1:
+        return None
+    number = row_counted(prime, rows[0], things[0])
+    if number == 0:
+        return None
+    row = combined([number_undone(number, prime)], rows, prime)
+    halves = row_split(prime, agreement.splits, things[0])
+    back = led_all(agreement.grouping.told(row), across(halves), prime)
+    return back if agreement.undoes(back, counts, one) else None
+
+
+def fault_and_back(prime, joins, one, splits, counts):
+    """The tuple of what_is_wrong, or None, and the back, or None if there is something wrong."""
+    grouping = Grouping(prime, joins)
+    fault = grouping.fault()
+    if fault is not None:
+        return ("joins",) + fault, None
+    fault = one_fault(grouping, one)
+    if fault is not None:
+        return fault, None
+    # Read the other way, splits join rows: what is alike in both groupings there, splits alike here.
+    telling = Grouping(prime, turned_cube(splits))
+    if telling.fault() is not None:
+        return ("splits", least_unlike_split(prime, splits)), None
+    fault = counts_fault(telling, counts)
+    if fault is not None:
+        return fault, None
+    agreement = Agreement(grouping, splits)
+    fault = both_fault(agreement, one, counts)
+    if fault is not None:
+        return fault, None
+    back = back_of(agreement, telling, one, counts)
+    return (("back",) if back is None else None), back

@@ -27,4 +27,5 @@ def is_group(value):
     # In a finite table that may be grouped at will, what undoes a thing from one side does so from the other.
     if not all([0 in row for row in value]):
         return False
-    return all([value[value[i][j]][k] == value[i][value[j][k]] for i in things for j in things for k in things])
+    rows = [list(row) for row in value]
+    return all([rows[row[j]] == [row[at] for at in rows[j]] for row in rows for j in things])

@@ -1,20 +1,12 @@
 """Leadings between splitbooks, and likenesses: those that a map undoes."""
 
 from splitbooks.checks import need_few, need_two_books
-from splitbooks.linear import combined, flat, halves_led, inverse, led_all, number_undone
-from splitbooks.tables import all_joined, row_counted, row_split, rows_joined
+from splitbooks.linear import across, combined, cube_led, inverse
+from splitbooks.powers import number_undone
+from splitbooks.tables import row_counted, rows_joined
 from splitbooks.values import is_map, rows_of
 
 MOST_MAPS = 20000
-
-
-def _keeps_splits(one, other, rows):
-    """Whether the map leads splits to splits, both halves led."""
-    prime = one.prime
-    for square, row in zip(one.splits, rows):
-        if halves_led(square, rows, rows, prime) != row_split(prime, other.splits, row):
-            return False
-    return True
 
 
 def is_leading(one, other, thing):
@@ -28,9 +20,9 @@ def is_leading(one, other, thing):
         return False
     if tuple([row_counted(prime, other.counts, row) for row in rows]) != one.counts:
         return False
-    if list(led_all(flat(one.joins), rows, prime)) != all_joined(prime, other.joins, rows, rows):
+    if cube_led(one.joins, None, None, rows, prime) != cube_led(other.joins, rows, rows, None, prime):
         return False
-    return _keeps_splits(one, other, rows)
+    return cube_led(one.splits, None, across(rows), rows, prime) == cube_led(other.splits, rows, None, None, prime)
 
 
 def _rows_by_count(book):

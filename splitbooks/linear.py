@@ -1,27 +1,11 @@
 """Sums of multiples of rows modulo a prime: maps put together and undone, tidy lists."""
 
+from splitbooks.packs import Fields, total
+from splitbooks.stairs import Stairs, kernel
 
-def power(number, exponent, prime):
-    """The product of exponent factors number, modulo the prime."""
-    total = 1
-    for _ in range(exponent):
-        total = total * number % prime
-    return total
-
-
-def is_power_above(number, exponent, most):
-    """Whether the product of exponent factors number, a number from 2 on, is above most."""
-    total = 1
-    for _ in range(exponent):
-        total = total * number
-        if total > most:
-            return True
-    return False
-
-
-def number_undone(number, prime):
-    """The number that, times number, is 1 modulo the prime; number is not 0 there."""
-    return power(number, prime - 2, prime)
+# Fewer rows are led quicker number by number.
+LEAST_ROWS = 3
+MANY_ROWS = 2
 
 
 def unit(size, place):
@@ -56,16 +40,36 @@ def paired(first, second):
 
 def combined(numbers, rows, prime):
     """The sum of numbers[k] times rows[k]; there is at least one row."""
-    total = [0] * len(rows[0])
+    sums = [0] * len(rows[0])
     for number, row in zip(numbers, rows):
         if number:
-            total = [so_far + number * more for so_far, more in zip(total, row)]
-    return tuple([number % prime for number in total])
+            sums = [so_far + number * more for so_far, more in zip(sums, row)]
+    return tuple([number % prime for number in sums])
 
 
 def led_all(rows, leader, prime):
-    """What the map leader leads each of the rows to."""
-    return tuple([combined(row, leader, prime) for row in rows])
+    """What the map leader leads each of the rows to; all numbers are from 0 to prime - 1."""
+    if len(rows) < LEAST_ROWS or not leader[0]:
+        return tuple([combined(row, leader, prime) for row in rows])
+    fields = Fields(prime, len(leader[0]), len(leader) * prime ** 2)
+    packs = [fields.packed(row) for row in leader]
+    return tuple([fields.unpacked(total(row, packs)) for row in rows])
+
+
+def cube_led(cube, firsts, seconds, thirds, prime):
+    """The cube that has at i, j, k the sum of firsts[i][a] * seconds[j][b] * cube[a][b][c] * thirds[c][k].
+
+    Where a leader is None, this place of the numbers stays as it is.
+    """
+    shape = [len(cube), len(cube[0]), len(cube[0][0])]
+    rows = [flat(square) for square in cube]
+    # Led at the first of three places, which then becomes the last one: three times.
+    for leader in (firsts, seconds, None if thirds is None else across(thirds)):
+        led = rows if leader is None else led_all(leader, rows, prime)
+        shape = shape[1:] + [len(led)]
+        numbers = flat(across(led))
+        rows = folded(numbers, len(numbers) // shape[0])
+    return tuple([folded(row, shape[2]) for row in rows])
 
 
 def halves_led(square, firsts, seconds, prime):
@@ -93,15 +97,19 @@ def rest_beyond(row, told, prime):
 
 def tidy_list(rows, prime):
     """The tidy list of rows of one size."""
-    found = {}
+    if not rows or not rows[0]:
+        return []
+    width = len(rows[0])
+    if len(rows) > MANY_ROWS * width:
+        # Of many rows it is quicker to ask first which sums of columns are 0.
+        empty = kernel(across(rows), prime)
+        return kernel(across(empty), prime) if empty else list(plain(width))
+    stairs = Stairs(prime, width)
     for row in rows:
-        rest = rest_beyond(row, list(found.values()), prime)
-        place = first_place(rest)
-        if place is not None:
-            new = combined([number_undone(rest[place], prime)], [rest], prime)
-            found = {at: combined([1, -have[place]], [have, new], prime) for at, have in found.items()}
-            found[place] = new
-    return [found[place] for place in sorted(found)]
+        stairs.taken(row)
+        if stairs.is_full():
+            return list(plain(width))
+    return stairs.tidy()
 
 
 def is_sum_of(row, tidy, prime):
@@ -109,17 +117,10 @@ def is_sum_of(row, tidy, prime):
     return first_place(rest_beyond(row, tidy, prime)) is None
 
 
-def kernel(rows, prime):
-    """The tidy list of all rows of numbers for which the sum of these times the rows is 0."""
-    width = len(rows[0])
-    told = tidy_list([row + unit(len(rows), at) for at, row in enumerate(rows)], prime)
-    return [row[width:] for row in told if first_place(row) >= width]
-
-
 def inverse(rows, prime):
     """The map that undoes a square's map; None if there is none."""
     size = len(rows)
-    told = tidy_list([row + unit(size, at) for at, row in enumerate(rows)], prime)
+    told = tidy_list([tuple(row) + unit(size, at) for at, row in enumerate(rows)], prime)
     if [first_place(row) for row in told] != list(range(size)):
         return None
     return tuple([row[size:] for row in told])

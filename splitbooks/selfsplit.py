@@ -1,7 +1,7 @@
 """Things that split into themselves twice."""
 
 from splitbooks.checks import need_book
-from splitbooks.linear import combined, kernel, led_all, number_undone, plain
+from splitbooks.selves import selfsplits
 from splitbooks.tables import row_counted, row_split, rows_joined, rows_paired
 from splitbooks.values import is_row, row_of
 
@@ -17,40 +17,10 @@ def is_selfsplit(book, thing):
         prime, book.splits, row) == rows_paired(prime, row, row)
 
 
-def _multiple_selfsplit(book, row):
-    """The list of the selfsplit thing that is a multiple of row, or of nothing."""
-    count = row_counted(book.prime, book.counts, row)
-    if count == 0:
-        return []
-    thing = combined([number_undone(count, book.prime)], [row], book.prime)
-    return [thing] if is_selfsplit(book, thing) else []
-
-
-def _selfsplit_among(book, rows, place):
-    """The selfsplit things among the sums of multiples of rows, which have like numbers ahead of place.
-
-    Where the first half of its split is told its number at place, a selfsplit thing is left times
-    this number. For unlike numbers the rows left so are independent: there are few to follow.
-    """
-    if len(rows) == 1:
-        return _multiple_selfsplit(book, rows[0])
-    prime = book.prime
-    told = led_all(rows, [square[place] for square in book.splits], prime)
-    counts = [row_counted(prime, book.counts, row) for row in rows]
-    found = []
-    for number in range(prime):
-        asked = [combined([1, -number], [left + (row[place],), row + (count,)], prime)
-                 for left, row, count in zip(told, rows, counts)]
-        some = kernel(asked, prime)
-        if some:
-            found.extend(_selfsplit_among(book, led_all(some, rows, prime), place + 1))
-    return found
-
-
 def selfsplit_things(book):
     """The list of all selfsplit things: one first, then the others, ascending."""
     need_book(book)
-    found = _selfsplit_among(book, plain(book.size), 0)
+    found = selfsplits(book.prime, book.splits, book.counts)
     return [book.one] + sorted([thing for thing in found if thing != book.one])
 
 

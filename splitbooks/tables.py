@@ -3,7 +3,7 @@
 Nothing here asks whether the tables are a splitbook: what judges them works with these, too.
 """
 
-from splitbooks.linear import across, combined, flat, folded, kernel, led_all, paired, tidy_list
+from splitbooks.linear import across, combined, cube_led, flat, folded, halves_led, led_all, paired
 
 
 def rows_joined(prime, joins, first, second):
@@ -12,11 +12,15 @@ def rows_joined(prime, joins, first, second):
 
 
 def all_joined(prime, joins, firsts, seconds):
-    """At a * len(seconds) + b the row to which firsts[a] and seconds[b] are joined."""
-    found = []
-    for led in led_all(firsts, [flat(square) for square in joins], prime):
-        found.extend(led_all(seconds, folded(led, len(joins)), prime))
-    return found
+    """At a, b the row to which firsts[a] and seconds[b] are joined."""
+    return cube_led(joins, firsts, seconds, None, prime)
+
+
+def turned_cube(cube):
+    """The cube that has cube[i][j][k] at j, k, i."""
+    flats = [flat(square) for square in cube]
+    size = len(cube)
+    return folded(list(zip(*flats)), size)
 
 
 def row_split(prime, splits, row):
@@ -48,8 +52,20 @@ def met_by(prime, joins, square, led):
     return led_all(pairs, flat(joins), prime)
 
 
+def few_met(prime, joins, entries, second):
+    """The square of few pairs, in entries (first half, second half, number), joined half by half to a square."""
+    sums = [[0] * len(joins) for _ in joins]
+    for a, b, number in entries:
+        led = halves_led(second, joins[a], joins[b], prime)
+        sums = [[so_far + number * more for so_far, more in zip(row, line)] for row, line in zip(sums, led)]
+    return tuple([tuple([number % prime for number in row]) for row in sums])
+
+
 def squares_met(prime, joins, first, second):
     """Two squares joined half by half: first halves to first ones, second halves to second ones."""
+    entries = [(a, b, number) for a, row in enumerate(first) for b, number in enumerate(row) if number]
+    if len(entries) <= len(joins):
+        return few_met(prime, joins, entries, second)
     return met_by(prime, joins, first, firsts_joined(prime, joins, second))
 
 
@@ -65,33 +81,5 @@ def counts_to_one(prime, counts, one):
 
 def maps_convolved(prime, splits, joins, first, second):
     """The map to what each split becomes, first halves led by first, second ones by second, and then joined."""
-    return led_all([flat(square) for square in splits], all_joined(prime, joins, first, second), prime)
-
-
-def map_convolved_back(prime, splits, counts, joins, one, first):
-    """The map that, convolved with first, leads each thing to its count times one; None if there is none.
-
-    Maps are convolved as things are joined, in any grouping, and there are finitely many. So some
-    sum of multiples of the map to one, first, first twice, .. is 0, and first can be convolved back
-    exactly if there is such a sum that has the map to one once: all the others have a factor first.
-    """
-    powers = [counts_to_one(prime, counts, one)]
-    sums = []
-    while not sums:
-        many = len(powers)
-        for _ in range(many):
-            powers.append(maps_convolved(prime, splits, joins, powers[-1], first))
-        sums = kernel([flat(rows) for rows in powers], prime)
-    if sums[0][0] == 0:
-        return None
-    numbers = [-number for number in sums[0][1:]]
-    return folded(combined(numbers, [flat(rows) for rows in powers[:-1]], prime), len(joins))
-
-
-def joined_span(prime, joins, makers, tidy):
-    """The tidy list of all that joining makers, as often as one likes, ahead of a tidy list's things makes."""
-    more = tidy_list(tidy + all_joined(prime, joins, makers, tidy), prime)
-    while len(more) > len(tidy):
-        tidy = more
-        more = tidy_list(tidy + all_joined(prime, joins, makers, tidy), prime)
-    return tidy
+    squares = cube_led(splits, None, across(first), second, prime)
+    return led_all([flat(square) for square in squares], flat(joins), prime)

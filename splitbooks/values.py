@@ -33,7 +33,10 @@ def is_listing(value):
 
 def is_row(value, size):
     """Whether value is a row of this size."""
-    return is_listing(value) and len(value) == size and all([is_number(item) for item in value])
+    if not is_listing(value) or len(value) != size:
+        return False
+    # Nearly always all are plain ints: this is asked first, as it is quicker.
+    return all([type(item) is int for item in value]) or all([is_number(item) for item in value])
 
 
 def is_row_list(value, size):

@@ -3,7 +3,7 @@
 import itertools
 import unittest
 
-from splitbooks import linear, values
+from splitbooks import linear, powers, stairs, values
 from tests import plainly, samples
 from tests.helping import Case
 from tests.samples import STRANGE
@@ -34,7 +34,7 @@ class LinearTest(Case):
             rows += [plainly.lead(prime, rows, [1] * many)]
             found = linear.tidy_list(rows, prime)
             self.assertEqual(found, plainly.tidy(rows, prime))
-            kernel = linear.kernel(rows, prime)
+            kernel = stairs.kernel(rows, prime)
             self.is_tidy(prime, many + 1, kernel)
             self.assertEqual(len(kernel) + len(found), many + 1)
             for numbers in kernel:
@@ -56,14 +56,14 @@ class LinearTest(Case):
     def test_numbers(self):
         for prime in (2, 3, 5, 7, 97):
             for number in range(1, prime):
-                self.assertEqual(number * linear.number_undone(number, prime) % prime, 1)
-            self.assertEqual(linear.power(prime + 1, 5, prime), 1)
-            self.assertEqual(linear.power(-1, 3, prime), prime - 1)
-            self.assertEqual(linear.power(0, 0, prime), 1)
-        self.assertFalse(linear.is_power_above(2, 4, 16))
-        self.assertTrue(linear.is_power_above(2, 5, 31))
-        self.assertFalse(linear.is_power_above(97, 0, 1))
-        self.assertTrue(linear.is_power_above(2, 10 ** 9, 16))
+                self.assertEqual(number * powers.number_undone(number, prime) % prime, 1)
+            self.assertEqual(powers.power(prime + 1, 5, prime), 1)
+            self.assertEqual(powers.power(-1, 3, prime), prime - 1)
+            self.assertEqual(powers.power(0, 0, prime), 1)
+        self.assertFalse(powers.is_power_above(2, 4, 16))
+        self.assertTrue(powers.is_power_above(2, 5, 31))
+        self.assertFalse(powers.is_power_above(97, 0, 1))
+        self.assertTrue(powers.is_power_above(2, 10 ** 9, 16))
 
 
 class ValuesTest(unittest.TestCase):
