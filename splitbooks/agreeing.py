@@ -73,6 +73,10 @@ class Agreement:
                 least = place // self.size
         return least
 
+    def holds(self):
+        """Whether all splits go with joins; it is enough to look at the makers."""
+        return not any([self.fault_of(i) is not None for i in self.grouping.makers])
+
     def undoes(self, back, counts, one):
         """Whether the first halves, led by the map back, and the second ones are always joined to the count of one."""
         numbers = []

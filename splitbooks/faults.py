@@ -57,15 +57,24 @@ def least_unlike_split(prime, splits):
     return None
 
 
-def both_fault(agreement, one, counts):
-    """("both",) or the least ("both", i, j) where splits or counts do not go with joins, or None."""
-    prime = agreement.prime
-    if row_split(prime, agreement.splits, one) != rows_paired(prime, one, one) or row_counted(prime, counts, one) != 1:
+def units_agree(grouping, splits, one, counts):
+    """Whether one splits into itself twice and has the count 1, and counts of joined things are multiplied."""
+    prime = grouping.prime
+    if row_split(prime, splits, one) != rows_paired(prime, one, one) or row_counted(prime, counts, one) != 1:
+        return False
+    return grouping.told(counts) == rows_paired(prime, counts, counts)
+
+
+def least_both_fault(grouping, splits, one, counts):
+    """("both",) or the least ("both", i, j) where splits or counts do not go with joins; there is one."""
+    prime = grouping.prime
+    if row_split(prime, splits, one) != rows_paired(prime, one, one) or row_counted(prime, counts, one) != 1:
         return ("both",)
-    # Where two things go with all others, so does what they are joined to: makers are enough.
-    for i in agreement.grouping.makers:
+    agreement = Agreement(grouping, splits)
+    # Where two things go with all others, so does what they are joined to: the least one is a maker.
+    for i in grouping.makers:
         faults = []
-        for j, row in enumerate(agreement.joins[i]):
+        for j, row in enumerate(grouping.cube[i]):
             if row_counted(prime, counts, row) != counts[i] * counts[j] % prime:
                 faults.append(j)
         least = agreement.fault_of(i)
@@ -93,15 +102,15 @@ def swallowed_by(grouping, counts):
     return kernel(rows, prime)
 
 
-def back_of(agreement, telling, one, counts):
-    """The back of tables in which nothing else is wrong; None if there is none.
+def back_told(grouping, telling, splits, one, counts):
+    """The only map that may be the back of tables in which nothing else is wrong; None if there is none.
 
-    If there is one, just one thing, up to a number, is swallowed by all ahead of it, and just one row, read
+    If there is a back, just one thing, up to a number, is swallowed by all ahead of it, and just one row, read
     the other way. The back leads a thing to the sum of what the row tells of it, joined to the second halves
     of the swallowed thing, times the first halves, divided by what the row tells of the swallowed thing.
     """
-    prime = agreement.prime
-    things = swallowed_by(agreement.grouping, counts)
+    prime = grouping.prime
+    things = swallowed_by(grouping, counts)
     rows = swallowed_by(telling, one)
     if len(things) != 1 or len(rows) != 1:
         return None
@@ -109,9 +118,31 @@ def back_of(agreement, telling, one, counts):
     if number == 0:
         return None
     row = combined([number_undone(number, prime)], rows, prime)
-    halves = row_split(prime, agreement.splits, things[0])
-    back = led_all(agreement.grouping.told(row), across(halves), prime)
-    return back if agreement.undoes(back, counts, one) else None
+    halves = row_split(prime, splits, things[0])
+    return led_all(grouping.told(row), across(halves), prime)
+
+
+def agreed_back(grouping, telling, splits, one, counts):
+    """The last tuple that may be wrong, or None, and the back: whether splits go with joins, and are undone.
+
+    Read the other way, joins are splits and splits are joins, and go with each other just if these do. So they
+    are looked at the way that has fewer makers.
+    """
+    mirrored = len(telling.makers) < len(grouping.makers)
+    if mirrored:
+        agreement = Agreement(telling, turned_cube(turned_cube(grouping.cube)))
+    else:
+        agreement = Agreement(grouping, splits)
+    if not units_agree(grouping, splits, one, counts) or not agreement.holds():
+        return least_both_fault(grouping, splits, one, counts), None
+    back = back_told(grouping, telling, splits, one, counts)
+    if back is None:
+        return ("back",), None
+    if mirrored:
+        undone = agreement.undoes(across(back), one, counts)
+    else:
+        undone = agreement.undoes(back, counts, one)
+    return (None, back) if undone else (("back",), None)
 
 
 def fault_and_back(prime, joins, one, splits, counts):
@@ -130,9 +161,4 @@ def fault_and_back(prime, joins, one, splits, counts):
     fault = counts_fault(telling, counts)
     if fault is not None:
         return fault, None
-    agreement = Agreement(grouping, splits)
-    fault = both_fault(agreement, one, counts)
-    if fault is not None:
-        return fault, None
-    back = back_of(agreement, telling, one, counts)
-    return (("back",) if back is None else None), back
+    return agreed_back(grouping, telling, splits, one, counts)

@@ -2,7 +2,6 @@
 
 from splitbooks.books import Splitbook
 from splitbooks.linear import led_all, paired, plain, unit
-from splitbooks.tables import squares_met
 
 
 def pair_square(size, first, second):
@@ -13,6 +12,27 @@ def pair_square(size, first, second):
 def sum_of_squares(one, other):
     """The sum of two squares."""
     return tuple([tuple([number + more for number, more in zip(row, line)]) for row, line in zip(one, other)])
+
+
+def entries_of(row):
+    """The pairs of the places of the numbers of a row that are not 0 and these numbers."""
+    return [(place, number) for place, number in enumerate(row) if number]
+
+
+def joined_by_halves(prime, few, first, second):
+    """Two squares joined half by half; few has at a, b the entries_of what things a and b are joined to.
+
+    In the squares of words nearly all numbers are 0, so this goes by those that are not.
+    """
+    sums = [[0] * len(second) for _ in second]
+    pairs = [(c, d, number) for c, row in enumerate(second) for d, number in entries_of(row)]
+    for a, row in enumerate(first):
+        for b, number in entries_of(row):
+            for c, d, more in pairs:
+                for x, one in few[a][c]:
+                    for y, other in few[b][d]:
+                        sums[x][y] = (sums[x][y] + number * more * one * other) % prime
+    return sums
 
 
 def grown_book(prime, words, leaders, splits, counts):
@@ -27,9 +47,10 @@ def grown_book(prime, words, leaders, splits, counts):
     joins = [plain(size)]
     for maker, rest in steps:
         joins.append(led_all(joins[rest], leaders[maker], prime))
+    few = [[entries_of(row) for row in rows] for rows in joins]
     squares = [pair_square(size, 0, 0)]
     numbers = [1]
     for maker, rest in steps:
-        squares.append(squares_met(prime, joins, splits[maker], squares[rest]))
+        squares.append(joined_by_halves(prime, few, splits[maker], squares[rest]))
         numbers.append(counts[maker] * numbers[rest])
     return Splitbook(prime, joins, unit(size, 0), squares, numbers)

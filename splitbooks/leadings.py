@@ -1,8 +1,9 @@
 """Leadings between splitbooks, and likenesses: those that a map undoes."""
 
 from splitbooks.checks import need_few, need_two_books
-from splitbooks.linear import across, combined, cube_led, inverse
+from splitbooks.linear import across, combined, cube_led, inverse, led_all, plain
 from splitbooks.powers import number_undone
+from splitbooks.stairs import Stairs
 from splitbooks.tables import row_counted, rows_joined
 from splitbooks.values import is_map, rows_of
 
@@ -25,69 +26,96 @@ def is_leading(one, other, thing):
     return cube_led(one.splits, None, across(rows), rows, prime) == cube_led(other.splits, rows, None, None, prime)
 
 
-def _rows_by_count(book):
-    """The ascending lists of all things of book, told by their counts."""
+def rows_of_count(book, count):
+    """The ascending list of all things of book that have this count."""
+    prime = book.prime
     rows = [()]
-    for _ in range(book.size):
-        rows = [row + (number,) for row in rows for number in range(book.prime)]
-    told = {count: [] for count in range(book.prime)}
+    for _ in range(book.size - 1):
+        rows = [row + (number,) for row in rows for number in range(prime)]
+    # The number at the last place that is counted is told by the others.
+    place = max([at for at, number in enumerate(book.counts) if number])
+    undone = number_undone(book.counts[place], prime)
+    found = []
     for row in rows:
-        told[row_counted(book.prime, book.counts, row)].append(row)
-    return told
+        row = row[:place] + (0,) + row[place:]
+        number = (count - row_counted(prime, book.counts, row)) * undone % prime
+        found.append(row[:place] + (number,) + row[place + 1:])
+    return sorted(found)
 
 
-def _last_place(row):
-    """The place of the last number of a row that is not 0; -1 for a row of 0."""
-    return max([-1] + [place for place, number in enumerate(row) if number])
+class Words:
+    """A basis of a splitbook: one, the first things that are not told by it and those ahead, and joined ones of these.
 
+    A stage is told by the place of such a thing, the pairs of what is joined to make more, as far as that is
+    new, and (i, j, numbers) for all other pairs: the sum of the numbers times the basis is what i is joined to j.
+    """
 
-def _pairs_by_last(book):
-    """At k the list of the pairs of things that, with what they are joined to, reach just to thing k."""
-    told = [[] for _ in range(book.size)]
-    for i, square in enumerate(book.joins):
-        for j, row in enumerate(square):
-            told[max(i, j, _last_place(row))].append((i, j))
-    return told
+    def __init__(self, book):
+        self.book = book
+        self.basis = [book.one]
+        self.stairs = Stairs(book.prime, book.size)
+        self.stairs.taken(book.one)
+        self.stages = []
+        for place, thing in enumerate(plain(book.size)):
+            if self.stairs.taken(thing) is not None:
+                self.basis.append(thing)
+                self.stages.append(self.stage(place))
+        self.undone = inverse(self.basis, book.prime)
+        self.stages = [self.with_numbers(stage) for stage in self.stages]
+
+    def stage(self, place):
+        """The stage of the thing last taken, with the pair of its sides where the numbers belong."""
+        pairs = []
+        others = []
+        at = len(self.basis) - 1
+        while at < len(self.basis):
+            for i, j in [(at, k) for k in range(1, at + 1)] + [(k, at) for k in range(1, at)]:
+                row = rows_joined(self.book.prime, self.book.joins, self.basis[i], self.basis[j])
+                if self.stairs.taken(row) is None:
+                    others.append((i, j, row))
+                else:
+                    pairs.append((i, j))
+                    self.basis.append(row)
+            at = at + 1
+        return (place, pairs, others)
+
+    def with_numbers(self, stage):
+        """The stage with numbers of the basis for the rows of its other pairs."""
+        place, pairs, others = stage
+        return (place, pairs, [(i, j, combined(row, self.undone, self.book.prime)) for i, j, row in others])
 
 
 class LikenessSearch:
-    """The search for the least likeness: things are led, in their sequence, to the least row that may do."""
+    """The search for the least likeness: the words of one are led, in their sequence, to the least that may do."""
 
     def __init__(self, one, other):
         self.one = one
         self.other = other
-        self.rows_by_count = _rows_by_count(other)
-        self.pairs_by_last = _pairs_by_last(one)
-        self.place_of_one = _last_place(one.one)
+        self.words = Words(one)
+        self.choices = [rows_of_count(other, one.counts[place]) for place, _, _ in self.words.stages]
 
-    def choices(self, rows):
-        """The ascending list of what the next thing may be led to, the ones ahead of it being led to rows."""
-        at = len(rows)
-        if at != self.place_of_one:
-            return self.rows_by_count[self.one.counts[at]]
-        # One of one is the last sum into which this thing comes, so what it is led to is told by now.
+    def led_on(self, images, at):
+        """What the words are led to, with those of the stage at; None if joined ones are not led to joined ones."""
         prime = self.one.prime
-        numbers = [1] + [-number for number in self.one.one[:at]]
-        rest = combined(numbers, [self.other.one] + rows, prime)
-        return [combined([number_undone(self.one.one[at], prime)], [rest], prime)]
+        _, pairs, others = self.words.stages[at]
+        for i, j in pairs:
+            images = images + [rows_joined(prime, self.other.joins, images[i], images[j])]
+        for i, j, numbers in others:
+            if rows_joined(prime, self.other.joins, images[i], images[j]) != combined(numbers, images, prime):
+                return None
+        return images
 
-    def fits(self, rows):
-        """Whether joined things are led to joined ones, as far as the last one of rows tells."""
-        prime = self.one.prime
-        for i, j in self.pairs_by_last[len(rows) - 1]:
-            if rows_joined(prime, self.other.joins, rows[i], rows[j]) != combined(self.one.joins[i][j], rows, prime):
-                return False
-        return True
-
-    def least(self, rows):
-        """The least likeness that begins with rows; None if there is none."""
-        if len(rows) == self.one.size:
+    def least(self, images, at):
+        """The least likeness that leads the first words to images, the stages ahead of at being done; or None."""
+        if at == len(self.choices):
+            rows = led_all(self.words.undone, images, self.one.prime)
             if inverse(rows, self.one.prime) is None or not is_leading(self.one, self.other, rows):
                 return None
-            return tuple(rows)
-        for row in self.choices(rows):
-            if self.fits(rows + [row]):
-                found = self.least(rows + [row])
+            return rows
+        for row in self.choices[at]:
+            more = self.led_on(images + [row], at)
+            if more is not None:
+                found = self.least(more, at + 1)
                 if found is not None:
                     return found
         return None
@@ -99,7 +127,7 @@ def likeness(one, other):
     if one.size != other.size:
         return None
     need_few(one.prime, (one.size - 1) ** 2, MOST_MAPS)
-    return LikenessSearch(one, other).least([])
+    return LikenessSearch(one, other).least([other.one], 0)
 
 
 def are_alike(one, other):

@@ -35,11 +35,15 @@ class Fields:
         self.gap = "0" * (self.digits - 2)
 
     def packed(self, row):
-        """The pack of a row of numbers; there is at least one."""
+        """The pack of a row of numbers."""
+        if not any(row):
+            return 0
         return int(self.gap.join([WORDS[number] for number in row]), 16)
 
     def spread(self, row, step):
         """The pack that has the numbers of a row in its last fields, each step fields behind the one before."""
+        if not any(row):
+            return 0
         gap = "0" * (self.digits * step - 2)
         return int(gap.join([WORDS[number] for number in row]), 16)
 

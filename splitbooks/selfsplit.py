@@ -2,7 +2,7 @@
 
 from splitbooks.checks import need_book
 from splitbooks.selves import selfsplits
-from splitbooks.tables import row_counted, row_split, rows_joined, rows_paired
+from splitbooks.tables import all_joined, row_counted, row_split, rows_paired
 from splitbooks.values import is_row, row_of
 
 
@@ -29,5 +29,5 @@ def selfsplit_group(book):
     need_book(book)
     things = selfsplit_things(book)
     place_of = {thing: place for place, thing in enumerate(things)}
-    return tuple([tuple([place_of[rows_joined(book.prime, book.joins, first, second)] for second in things])
-                  for first in things])
+    joined = all_joined(book.prime, book.joins, things, things)
+    return tuple([tuple([place_of[row] for row in rows]) for rows in joined])
