@@ -2,10 +2,20 @@
 
 from splitbooks.checks import need_book, thing_of
 from splitbooks.errors import BadSelfsplit
-from splitbooks.linear import combined, flat, halves_led, plain, rest_beyond, tidy_list
+from splitbooks.linear import across, combined, cube_led, flat, plain, rest_beyond, tidy_list
 from splitbooks.selfsplit import is_selfsplit, selfsplit_things
 from splitbooks.stairs import kernel
 from splitbooks.tables import rows_paired
+
+
+def between_rows(book, first, second):
+    """The tidy list of the things that split into themselves and first, second and themselves, for any two things."""
+    prime = book.prime
+    rows = []
+    for thing, square in zip(plain(book.size), book.splits):
+        parts = [square, rows_paired(prime, thing, first), rows_paired(prime, second, thing)]
+        rows.append(combined([1, -1, -1], [flat(part) for part in parts], prime))
+    return kernel(rows, prime)
 
 
 def betweens(book, first, second):
@@ -16,12 +26,7 @@ def betweens(book, first, second):
     for thing in (first, second):
         if not is_selfsplit(book, thing):
             raise BadSelfsplit("a selfsplit thing is wanted")
-    prime = book.prime
-    rows = []
-    for thing, square in zip(plain(book.size), book.splits):
-        parts = [square, rows_paired(prime, thing, first), rows_paired(prime, second, thing)]
-        rows.append(combined([1, -1, -1], [flat(part) for part in parts], prime))
-    return kernel(rows, prime)
+    return between_rows(book, first, second)
 
 
 def _next_layer(book, first, last):
@@ -30,7 +35,8 @@ def _next_layer(book, first, last):
     # Only pairs with a first half beyond the first layer and a second half beyond the last one leave something.
     beyond_first = [rest_beyond(thing, first, prime) for thing in plain(book.size)]
     beyond_last = [rest_beyond(thing, last, prime) for thing in plain(book.size)]
-    return kernel([flat(halves_led(square, beyond_first, beyond_last, prime)) for square in book.splits], prime)
+    squares = cube_led(book.splits, None, across(beyond_first), beyond_last, prime)
+    return kernel([flat(square) for square in squares], prime)
 
 
 def layers(book):

@@ -8,7 +8,7 @@ from splitbooks.grouping import Grouping
 from splitbooks.linear import across, combined, flat, folded, led_all, plain
 from splitbooks.powers import number_undone
 from splitbooks.stairs import kernel
-from splitbooks.tables import row_counted, row_split, rows_paired, turned_cube
+from splitbooks.tables import row_counted, row_split, rows_paired, turned_back_cube, turned_cube
 
 
 def joined_sides(prime, cube, row):
@@ -130,7 +130,7 @@ def agreed_back(grouping, telling, splits, one, counts):
     """
     mirrored = len(telling.makers) < len(grouping.makers)
     if mirrored:
-        agreement = Agreement(telling, turned_cube(turned_cube(grouping.cube)))
+        agreement = Agreement(telling, turned_back_cube(grouping.cube))
     else:
         agreement = Agreement(grouping, splits)
     if not units_agree(grouping, splits, one, counts) or not agreement.holds():

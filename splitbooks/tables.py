@@ -23,6 +23,12 @@ def turned_cube(cube):
     return folded(list(zip(*flats)), size)
 
 
+def turned_back_cube(cube):
+    """The cube that has cube[j][k][i] at i, j, k."""
+    size = len(cube)
+    return tuple([folded(row, size) for row in across(flat(cube))])
+
+
 def row_split(prime, splits, row):
     """The square of numbers at the halves of a row."""
     return tuple([combined(row, [square[at] for square in splits], prime) for at in range(len(row))])

@@ -1,0 +1,89 @@
+"""What is left of joins once fading things count as 0, and the blocks that it falls into."""
+
+from splitbooks.idempotents import central_rows, least_parts
+from splitbooks.joiners import Joiner
+from splitbooks.linear import combined, first_place, led_all, plain, rest_beyond, tidy_list
+from splitbooks.selves import digit
+from splitbooks.stairs import Stairs
+
+
+class Rest:
+    """The joins of things up to sums of fading ones, as rows of numbers of those things at which no fading row begins.
+
+    things are their places; down is the map that leads each thing to what is left of it.
+    """
+
+    def __init__(self, prime, joins, one, fading):
+        begun = [first_place(row) for row in fading]
+        self.prime = prime
+        self.things = [at for at in range(len(joins)) if at not in begun]
+        beyond = [rest_beyond(thing, fading, prime) for thing in plain(len(joins))]
+        self.down = tuple([tuple([row[at] for at in self.things]) for row in beyond])
+        self.joins = [led_all([joins[i][j] for j in self.things], self.down, prime) for i in self.things]
+        self.one = combined(one, self.down, prime)
+        self.joiner = Joiner(prime, self.joins)
+        self.center = central_rows(prime, self.joins)
+        self.parts = least_parts(self.joiner, self.center, self.one)
+
+    def up(self, row):
+        """The thing with these numbers at the places of things and 0 elsewhere."""
+        numbers = dict(zip(self.things, row))
+        return tuple([numbers.get(at, 0) for at in range(len(self.down))])
+
+    def behind(self, part):
+        """The map that leads each row to it joined to part."""
+        return tuple([combined(part, square, self.prime) for square in self.joins])
+
+    def lot(self, part):
+        """The tidy list of all rows joined to part."""
+        return tidy_list(self.behind(part), self.prime)
+
+    def degree(self, part):
+        """The number of rows of the tidy list of the middle joined to part."""
+        return len(tidy_list(led_all(self.center, self.joiner.leader(part), self.prime), self.prime))
+
+    def corner(self, part, rows):
+        """The tidy list of part joined to each of rows, joined to part."""
+        led = led_all(rows, self.joiner.leader(part), self.prime)
+        return tidy_list(led_all(led, self.behind(part), self.prime), self.prime)
+
+    def powers_span(self, row, one):
+        """The tidy list of one, row, row joined to itself, .."""
+        stairs = Stairs(self.prime, len(one))
+        leader = self.joiner.leader(row)
+        power = one
+        while stairs.taken(power) is not None:
+            power = combined(power, leader, self.prime)
+        return stairs.tidy()
+
+    def smaller_part(self, part, rows):
+        """A row that, joined to itself, is itself, a part of part but not all of it; rows is the corner of part."""
+        for row in sums_tried(self.prime, rows):
+            found = least_parts(self.joiner, self.powers_span(row, part), part)
+            if len(found) > 1:
+                sizes = [len(self.corner(one, rows)) for one in found]
+                return found[sizes.index(min(sizes))]
+        return part
+
+    def least_part(self, part):
+        """A row that, joined to itself, is itself, a part of part of which no further one can be taken off."""
+        degree = self.degree(part)
+        rows = self.corner(part, plain(len(self.one)))
+        # A corner is like the squares of some size m of numbers of a field: it has m * m * degree rows.
+        while len(rows) > degree:
+            part = self.smaller_part(part, rows)
+            rows = self.corner(part, rows)
+        return part
+
+
+def sums_tried(prime, rows):
+    """Sums of multiples of rows: each of the rows, sums of two, and, if these do not do, all of them."""
+    for row in rows:
+        yield row
+    for at, row in enumerate(rows):
+        for other in rows[:at]:
+            for number in range(1, prime):
+                yield combined([number, 1], [other, row], prime)
+    # There are at most 16 rows.
+    for number in range(prime ** 16):
+        yield combined([digit(number, prime, place) for place in range(len(rows))], rows, prime)
