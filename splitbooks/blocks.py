@@ -38,8 +38,10 @@ class Rest:
         """The tidy list of all rows joined to part."""
         return tidy_list(self.behind(part), self.prime)
 
-    def degree(self, part):
-        """The number of rows of the tidy list of the middle joined to part."""
+    def degree(self, part, lot):
+        """The number of rows of the tidy list of the middle joined to part; lot is that of part."""
+        if len(lot) == 1:
+            return 1
         return len(tidy_list(led_all(self.center, self.joiner.leader(part), self.prime), self.prime))
 
     def corner(self, part, rows):
@@ -65,15 +67,18 @@ class Rest:
                 return found[sizes.index(min(sizes))]
         return part
 
-    def least_part(self, part):
-        """A row that, joined to itself, is itself, a part of part of which no further one can be taken off."""
-        degree = self.degree(part)
-        rows = self.corner(part, plain(len(self.one)))
-        # A corner is like the squares of some size m of numbers of a field: it has m * m * degree rows.
+    def least_lot(self, part, lot, degree):
+        """The lot of a row that, joined to itself, is itself, a part of part of which no further one can be taken off.
+
+        One of the parts is given, with its lot and its degree.
+        """
+        # The corner of a part is like the squares of some size m of numbers of a field: m * m * degree rows.
+        rows = lot
         while len(rows) > degree:
             part = self.smaller_part(part, rows)
             rows = self.corner(part, rows)
-        return part
+            lot = self.lot(part)
+        return lot
 
 
 def sums_tried(prime, rows):

@@ -20,14 +20,15 @@ def traces_of(prime, leads):
 
 
 def kinds_of(book):
-    """The Rest of the book, and the ascending list of (kind, leads, part): its simple kinds, with leads and part each."""
+    """The Rest of the book, and the ascending list of (kind, leads, part) for its simple kinds."""
     rest = Rest(book.prime, book.joins, book.one, fading_things(book))
     found = []
     for part in rest.parts:
+        lot = rest.lot(part)
+        degree = rest.degree(part, lot)
         # The lot of a least part is simple: there is nothing between it and 0.
-        least = rest.least_part(part)
-        leads = leads_on(rest, rest.lot(least))
-        kind = (len(leads[0]), rest.degree(part), traces_of(book.prime, leads))
+        leads = leads_on(rest, rest.least_lot(part, lot, degree))
+        kind = (len(leads[0]), degree, traces_of(book.prime, leads))
         found.append((kind, leads, part))
     return rest, sorted(found)
 

@@ -126,7 +126,7 @@ def beside_numbers(book):
 
 
 def turned_kinds(book):
-    """The list that has at i the place of the kind whose row tells of things what that of kind i tells of their backs."""
+    """The list that has at i the place of the kind that tells of things what kind i tells of their backs."""
     need_book(book)
     rows = [row for _, _, row in simple_kinds(book)]
     return [rows.index(row) for row in led_all(rows, across(book.back), book.prime)]

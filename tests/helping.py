@@ -60,3 +60,37 @@ class Case(unittest.TestCase):
             self.numbers_within(prime, row, 1)
             self.assertEqual(len(row), size)
         self.assertEqual(rows, plainly.tidy(rows, prime))
+
+    def wrong_rows(self, size):
+        """Values that are no rows of this size."""
+        return STRANGE + [[], (), [1] * (size - 1), [1] * (size + 1), [[1] * size], [1] * (size - 1) + [True],
+                          [1] * (size - 1) + [1.0], "1" * size, {k: 1 for k in range(size)}, range(size)]
+
+    def wrong_squares(self, size):
+        """Values that are no squares of this size."""
+        row = [1] * size
+        return STRANGE + [[], row, [row] * (size - 1), [row] * (size + 1), [[1] * (size + 1)] * size,
+                          [row] * (size - 1) + [[1] * (size - 1)], [row] * (size - 1) + [[True] * size],
+                          [row] * (size - 1) + [None], [[row] * size], [row] * (size - 1) + ["1" * size]]
+
+    def refuses_rows(self, error, function, book, *others):
+        """function refuses what is no row of the book, ahead of others; and what is no Splitbook ahead of that."""
+        for value in self.wrong_rows(book.size):
+            self.refused(error, None, function, book, value, *others)
+        self.wants_books(function, 1, [1], *others)
+
+    def keeps_lists(self, function, *args):
+        """A list that function returns is a new one each time: it may be changed."""
+        found = function(*args)
+        self.assertIs(type(found), list)
+        kept = list(found)
+        found.append("more")
+        again = function(*args)
+        self.assertEqual(again, kept)
+        again.clear()
+        self.assertEqual(function(*args), kept)
+
+    def spelled(self, prime, row):
+        """The row in other spellings: a list, numbers below 0, numbers beyond the prime."""
+        return [list(row), [number - prime for number in row], tuple(number + 2 * prime for number in row),
+                [number + prime * (3 - at) for at, number in enumerate(row)]]

@@ -179,3 +179,34 @@ def large_books():
         "brackets 13": bracket_book(13, [[[0]]], [[1]]),
         "slips": beside(slip_book(2), slip_book(2)),
     }
+
+
+@functools.lru_cache(None)
+def more_books():
+    """All of books(), some over large primes, and some with several kinds, walls or fading steps."""
+    found = dict(books())
+    more = {
+        "one thing over 97": group_book(97, [[0]]),
+        "three over 2": group_book(2, cyclic(3)),
+        "four over 2": group_book(2, cyclic(4)),
+        "five over 2": group_book(2, cyclic(5)),
+        "five over 97": group_book(97, cyclic(5)),
+        "six turns over 7": group_book(7, cyclic(6)),
+        "seven over 2": group_book(2, cyclic(7)),
+        "six over 97": group_book(97, SIX),
+        "six over 3": group_book(3, SIX),
+        "shift 2 over 97": shift_book(97, 2, 96),
+        "brackets 7": bracket_book(7, [[[0]]], [[1]]),
+    }
+    for name, book in more.items():
+        found[name] = book
+        found[name + ", other basis"] = in_basis(book, some_basis(book.size, book.prime, 5))
+    three = group_book(2, cyclic(3))
+    found["three beside slip"] = beside(three, slip_book(2))
+    found["threes over 2, other basis"] = in_basis(beside(three, three), some_basis(9, 2))
+    return found
+
+
+def small_books(most):
+    """Those of more_books() that have at most so many things, counted as rows of numbers."""
+    return {name: book for name, book in more_books().items() if book.prime ** book.size <= most}

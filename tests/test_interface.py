@@ -21,6 +21,25 @@ INTERFACE = {
     "brackets": {"bracket_book": "prime brackets powers"},
     "selfsplit": {"is_selfsplit": "book thing", "selfsplit_things": "book", "selfsplit_group": "book"},
     "betweens": {"betweens": "book first second", "layers": "book"},
+    "evens": {"is_even": "book thing", "evens": "book", "even_brackets": "book", "even_leading": "book"},
+    "swallowed": {
+        "swallowed_left": "book", "swallowed_right": "book", "is_swallowed_left": "book thing",
+        "is_swallowed_right": "book thing", "sides_alike": "book", "row_tells": "book row thing",
+        "firsts_told": "book row thing", "seconds_told": "book row thing", "shift_row": "book"},
+    "forms": {
+        "swallowing_row": "book", "row_form": "book row", "is_form": "book thing", "passing_square": "book",
+        "duals": "book rows", "back_by_form": "book", "shifted": "book thing", "shift_of": "book row"},
+    "turners": {"turner": "book", "form_turner": "book square"},
+    "fourths": {"rows_leader": "book", "fourth_by_leaders": "book", "back_order": "book", "leader_orders": "book"},
+    "fading": {
+        "left_lot": "book things", "is_fading": "book thing", "fading_things": "book", "fading_steps": "book",
+        "tracing_rows": "book"},
+    "simples": {
+        "falls_apart": "book", "is_parting_square": "book thing", "parting_square": "book", "left_keeper": "book things",
+        "map_trace": "book rows", "trace_by_halves": "book rows", "falls_apart_both_ways": "book", "middle": "book",
+        "walls_of": "book"},
+    "kinds": {"simple_leads": "book", "simple_kinds": "book"},
+    "numbers": {"kind_things": "book", "hull_numbers": "book", "beside_numbers": "book", "turned_kinds": "book"},
 }
 
 
@@ -54,7 +73,7 @@ class InterfaceTest(unittest.TestCase):
         book = families.group_book(table=[[0, 1], [1, 0]], prime=3)
         values = {"book": book, "one": book, "other": book, "first": (1, 0), "second": (0, 1), "thing": (1, 0),
                   "things": [(1, 0)], "square": ((1, 0), (0, 1)), "rows": ((1, 0), (1, 1)), "prime": 3, "order": 2,
-                  "root": 2, "table": [[0]], "brackets": [[[0]]], "powers": [[1]]}
+                  "root": 2, "row": (0, 1), "table": [[0]], "brackets": [[[0]]], "powers": [[1]]}
         special = {"convolved": {"first": book.back, "second": book.back}, "convolved_back": {"first": book.back},
                    "squares_joined": {"first": book.back, "second": book.back}, "betweens": {"second": (1, 0)},
                    "what_is_wrong": {"joins": [[[1]]], "one": [1], "splits": [[[1]]], "counts": [1]}}
