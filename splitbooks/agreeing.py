@@ -51,7 +51,8 @@ class Agreement:
     def halves_of(self, i):
         """(b, c, row) for each second half b of thing i: row has what the first halves, joined to c, are, if not 0."""
         found = []
-        for b, column in enumerate(zip(*self.splits[i])):
+        square = self.splits[i]
+        for b, column in enumerate(zip(*square)):
             if any(column):
                 numbers = self.grouping.fields.unpacked(total(column, self.grouping.squares))
                 for c in range(self.size):
@@ -64,7 +65,8 @@ class Agreement:
         """The least j for which the split of i joined to j is not both splits joined half by half, or None."""
         halves = self.halves_of(i)
         packs = [self.met(b, c) for b, c, _ in halves]
-        columns = [self.fields.spread(column, self.size) for column in zip(*self.joins[i])]
+        square = self.joins[i]
+        columns = [self.fields.spread(column, self.size) for column in zip(*square)]
         least = None
         for m, lines in enumerate(self.lines):
             joined = total([row[m] for _, _, row in halves], packs)

@@ -22,8 +22,8 @@ class Rest:
         self.joins = [led_all([joins[i][j] for j in self.things], self.down, prime) for i in self.things]
         self.one = combined(one, self.down, prime)
         self.joiner = Joiner(prime, self.joins)
-        self.center = central_rows(prime, self.joins)
-        self.parts = least_parts(self.joiner, self.center, self.one)
+        self.middle = central_rows(prime, self.joins)
+        self.parts = least_parts(self.joiner, self.middle, self.one)
 
     def up(self, row):
         """The thing with these numbers at the places of things and 0 elsewhere."""
@@ -42,7 +42,7 @@ class Rest:
         """The number of rows of the tidy list of the middle joined to part; lot is that of part."""
         if len(lot) == 1:
             return 1
-        return len(tidy_list(led_all(self.center, self.joiner.leader(part), self.prime), self.prime))
+        return len(tidy_list(led_all(self.middle, self.joiner.leader(part), self.prime), self.prime))
 
     def corner(self, part, rows):
         """The tidy list of part joined to each of rows, joined to part."""

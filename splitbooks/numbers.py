@@ -48,14 +48,14 @@ def hull_numbers(book):
     prime = book.prime
     things = things_of_parts(book, rest, [part for _, _, part in kinds])
     joiner = Joiner(prime, book.joins)
+    leaders = [joiner.leader(thing) for thing in things]
+    sizes = [size for (size, _, _), _, _ in kinds]
     rows = []
-    for thing, ((size, degree, _), _, _) in zip(things, kinds):
+    for thing, (kind, _, _) in zip(things, kinds):
         lot = tidy_list(led_behind(prime, book.joins, thing), prime)
-        row = []
-        for ahead, ((more, _, _), _, _) in zip(things, kinds):
-            led = tidy_list(led_all(lot, joiner.leader(ahead), prime), prime)
-            row.append(len(led) // (more * (size // degree)))
-        rows.append(tuple(row))
+        ranks = [len(tidy_list(led_all(lot, leader, prime), prime)) for leader in leaders]
+        often = kind[0] // kind[1]
+        rows.append(tuple([rank // (size * often) for rank, size in zip(ranks, sizes)]))
     return tuple(rows)
 
 

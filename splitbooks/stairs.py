@@ -60,7 +60,7 @@ def kernel(rows, prime):
     """The tidy list of all rows of numbers for which the sum of these times the rows is 0."""
     many = len(rows)
     if not rows[0]:
-        return [tuple([1 if at == place else 0 for at in range(many)]) for place in range(many)]
+        return [tuple([1 if spot == place else 0 for spot in range(many)]) for place in range(many)]
     fields = Fields(prime, len(rows[0]), many * many * prime ** 3)
     sides = Fields(prime, many, many * prime ** 2)
     packs = [fields.packed(row) for row in rows]

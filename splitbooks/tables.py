@@ -64,7 +64,7 @@ def few_met(prime, joins, entries, second):
     for a, b, number in entries:
         led = halves_led(second, joins[a], joins[b], prime)
         sums = [[so_far + number * more for so_far, more in zip(row, line)] for row, line in zip(sums, led)]
-    return tuple([tuple([number % prime for number in row]) for row in sums])
+    return tuple([tuple([so_far % prime for so_far in row]) for row in sums])
 
 
 def squares_met(prime, joins, first, second):

@@ -45,6 +45,13 @@ NO_FILE = {"test", "tests", "testing", "site", "conftest", "sitecustomize", "use
 NO_ATTRIBUTE = set("""items keys values pop update append clear extend insert remove reverse setdefault sort args
 encode decode hex fromhex format format_map mro as_integer_ratio bit_count conjugate from_bytes is_integer
 to_bytes""".split())
+# The names that values of Python's own have; own methods and attributes may have just a few of them.
+OF_VALUES = {name for kind in (str, bytes, int, list, dict, set, tuple) for name in vars(kind)
+             if not name.startswith("__")}
+FREE_ATTRIBUTES = set("count index title find get join lower upper split strip copy add".split())
+FREE_METHODS = set("""add discard append clear copy count endswith extend find get index insert isalnum isalpha
+isdigit islower isspace isupper items join keys ljust lower lstrip partition pop remove replace reverse rfind rjust
+rpartition rsplit rstrip setdefault split splitlines startswith strip update upper values zfill bit_length""".split())
 STATEMENTS = (
     ast.Assign, ast.AugAssign, ast.AnnAssign, ast.If, ast.While, ast.For, ast.Return, ast.Break, ast.Continue,
     ast.Pass, ast.Raise, ast.Assert, ast.Delete, ast.Nonlocal, ast.Global, ast.Match, ast.With, ast.Try, ast.Expr,
@@ -438,11 +445,63 @@ def without_comments(source):
     return ast.unparse(tree)
 
 
+def own_name_faults(source):
+    """L26: methods and attributes that have the names of those of Python's own values."""
+    told = []
+    for node in source.nodes(ast.Attribute):
+        if isinstance(node.ctx, ast.Store) and node.attr in OF_VALUES - FREE_ATTRIBUTES:
+            told.append(source.told("L26", node, f"an attribute {node.attr}"))
+    for node in source.classes():
+        for part in node.body:
+            if isinstance(part, ast.FunctionDef) and part.name in OF_VALUES - FREE_METHODS:
+                told.append(source.told("L26", part, f"a method {part.name}"))
+    return told
+
+
+def stored_names(node):
+    """The names that a node assigns, but for those of comprehensions and functions within it."""
+    found = set()
+    for child in ast.iter_child_nodes(node):
+        if isinstance(child, COMPREHENSIONS + (ast.FunctionDef, ast.Lambda)):
+            continue
+        if isinstance(child, ast.Name) and isinstance(child.ctx, ast.Store):
+            found.add(child.id)
+        found |= stored_names(child)
+    return found
+
+
+def target_faults(source):
+    """L7, L23: what stands behind a star, targets of loops, the variables of comprehensions within others."""
+    told = []
+    for node in source.nodes(ast.Call):
+        for part in node.args:
+            if isinstance(part, ast.Starred) and not isinstance(part.value, (ast.Name, ast.Attribute, ast.List, ast.Tuple)):
+                told.append(source.told("L7", node, "what stands behind a star has no name"))
+    for node in source.nodes(ast.For, ast.comprehension):
+        for part in getattr(node.target, "elts", []):
+            if any(isinstance(more, ast.Tuple) for more in getattr(part, "elts", [])):
+                told.append(source.told("L23", node.target, "names in parentheses within parentheses"))
+    for node in source.nodes(*COMPREHENSIONS):
+        mine = {part.id for each in node.generators for part in ast.walk(each.target) if isinstance(part, ast.Name)}
+        outer, around, within = node, set(), False
+        while outer in source.parent and not isinstance(outer, ast.FunctionDef):
+            outer = source.parent[outer]
+            if isinstance(outer, COMPREHENSIONS):
+                within = True
+                around |= {part.id for each in outer.generators for part in ast.walk(each.target)
+                           if isinstance(part, ast.Name)}
+        if isinstance(outer, ast.FunctionDef):
+            around |= stored_names(outer) | {part.arg for part in outer.args.args}
+        if within and mine & around - {"_"}:
+            told.append(source.told("L7", node, "a name of a comprehension within another one"))
+    return told
+
+
 def source_faults(source, sources):
     """All that the rules have against one file."""
     return (sign_faults(source) + import_faults(source, sources) + level_faults(source)
             + class_faults(source, sources) + statement_faults(source) + call_faults(source, sources)
-            + name_faults(source))
+            + name_faults(source) + own_name_faults(source) + target_faults(source))
 
 
 def package_faults(folder):

@@ -62,6 +62,11 @@ BROKEN = [
     ("L24", "def f(x):\n    return {1, x}\n"),
     ("L25", "def f(x):\n    return x.format_map(x)\n"),
     ("L26", "class A:\n    def __init__(self):\n        self.items = 1\n"),
+    ("L26", "class A:\n    def __init__(self):\n        self.center = 1\n"),
+    ("L26", "class A:\n    def center(self):\n        return 1\n"),
+    ("L7", "def f(xs):\n    return [x for x in zip(*xs[0])]\n"),
+    ("L7", "def f(xs):\n    for x in xs:\n        xs = [[x for x in y] for y in xs]\n    return xs\n"),
+    ("L23", "def f(xs):\n    for a, (b, (c, d)) in xs:\n        return a\n"),
     ("L27", "def f(x, y):\n    return x ** y\n"),
     ("L27", "A = \"100%\"\n"),
     ("L27", "A = \"__odd__\"\n"),
@@ -72,6 +77,7 @@ FINE = [
     "def f(xs):\n    return [x for x in zip(xs, xs) if x is not None]\n",
     "def f(n):\n    return sum([k ** 2 for k in range(n)])\n",
     "class A:\n    def __init__(self, n):\n        self.n = n\n",
+    "def f(xs):\n    for a, (b, _) in xs:\n        xs = [[x for x in y] for y in zip(*xs)]\n    return xs\n",
 ]
 
 
