@@ -85,9 +85,9 @@ def sums_tried(prime, rows):
     """Sums of multiples of rows: each of the rows, sums of two, and, if these do not do, all of them."""
     for row in rows:
         yield row
-    for at, row in enumerate(rows):
-        for other in rows[:at]:
-            for number in range(1, prime):
+    for number in range(1, prime):
+        for at, row in enumerate(rows):
+            for other in rows[:at]:
                 yield combined([number, 1], [other, row], prime)
     # There are at most 16 rows.
     for number in range(prime ** 16):

@@ -3,6 +3,8 @@
 from splitbooks.packs import Fields, total
 from splitbooks.powers import number_undone
 
+FEW_ROWS = 50
+
 
 class Stairs:
     """Rows of one width, kept as packs: each has 1 at its first place, and 0 at those of the ones before it."""
@@ -61,7 +63,8 @@ def kernel(rows, prime):
     many = len(rows)
     if not rows[0]:
         return [tuple([1 if spot == place else 0 for spot in range(many)]) for place in range(many)]
-    fields = Fields(prime, len(rows[0]), many * many * prime ** 3)
+    few = many <= FEW_ROWS
+    fields = Fields(prime, len(rows[0]), many * prime ** 2 * (many * prime if few else 1))
     sides = Fields(prime, many, many * prime ** 2)
     packs = [fields.packed(row) for row in rows]
     known = []
@@ -76,8 +79,9 @@ def kernel(rows, prime):
                 rest = rest + (prime - number) * pack
                 side = side + (prime - number) * more
         numbers = sides.unpacked(side)
-        # Put together once more, of numbers below the prime, the rest is not too large for its fields.
-        rest = total(numbers, packs)
+        # What is kept must not be too large for its fields: few rows are put together once more, of numbers
+        # below the prime, which is quicker than to take these of the rest.
+        rest = total(numbers, packs) if few else fields.packed(fields.unpacked(rest))
         place = fields.first_place(rest)
         if place is None:
             found.append(numbers)

@@ -57,6 +57,8 @@ SIX = of_orders([(1, 0, 2), (0, 2, 1)])
 EIGHT = of_orders([(1, 2, 3, 0), (3, 2, 1, 0)])
 QUATERNIONS = of_orders([(1, 2, 3, 0, 5, 6, 7, 4), (4, 7, 6, 5, 2, 1, 0, 3)])
 TWELVE = of_orders([(1, 2, 0, 3), (0, 2, 3, 1)])
+TEN = of_orders([(1, 2, 3, 4, 0), (0, 4, 3, 2, 1)])
+FOURTEEN = of_orders([(1, 2, 3, 4, 5, 6, 0), (0, 6, 5, 4, 3, 2, 1)])
 
 
 # [x0, x1] is x1; for 2 and 3 the power of x0 is x0, that of x1 is 0.
@@ -172,6 +174,8 @@ def large_books():
         "sixteen over 97": group_book(97, cyclic(16)),
         "sixteen over 2, other way": other_way(group_book(2, beside_groups(FOUR, FOUR))),
         "twelve over 2": group_book(2, TWELVE),
+        "ten over 2": group_book(2, TEN),
+        "fourteen over 97, other basis": in_basis(group_book(97, FOURTEEN), some_basis(14, 97)),
         "eight over 2": group_book(2, EIGHT),
         "quaternions over 3": group_book(3, QUATERNIONS),
         "shift 4 over 5": shift_book(5, 4, 2),

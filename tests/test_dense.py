@@ -1,4 +1,4 @@
-"""Points 11, 20, 21 in books of many things in dense bases: faults at the last places, and the time that is taken."""
+"""Points 11, 20, 21 in books of many things in dense bases: faults at the last places; the time that is taken."""
 
 import time
 import unittest
@@ -9,9 +9,18 @@ from splitbooks.betweens import betweens, layers
 from splitbooks.books import Splitbook, what_is_wrong
 from splitbooks.brackets import bracket_book
 from splitbooks.doings import back_undone, convolved, convolved_back, unit_map
+from splitbooks.evens import even_leading
+from splitbooks.fading import fading_steps, tracing_rows
 from splitbooks.families import group_book, shift_book, slip_book
+from splitbooks.forms import back_by_form
+from splitbooks.fourths import fourth_by_leaders, leader_orders
+from splitbooks.kinds import simple_kinds, simple_leads
 from splitbooks.leadings import is_leading
+from splitbooks.numbers import beside_numbers, hull_numbers, kind_things, turned_kinds
 from splitbooks.selfsplit import selfsplit_group, selfsplit_things
+from splitbooks.simples import falls_apart_both_ways, parting_square, walls_of
+from splitbooks.swallowed import shift_row, swallowed_left
+from splitbooks.turners import turner
 from tests import dense, plainly, samples
 from tests.helping import Case
 
@@ -160,6 +169,15 @@ class TimeTest(unittest.TestCase):
         self.within(5, convolved_back, book, book, samples.plain(16))
         self.within(5, is_leading, book, book, samples.plain(16))
         self.within(5, back_undone, book)
+
+    def test_parts_and_forms(self):
+        for book in (shift_book(7, 3, 2), group_book(19, samples.cyclic(9)), group_book(97, samples.TWELVE)):
+            book = in_basis(book, samples.some_basis(book.size, book.prime))
+            for function in (swallowed_left, shift_row, even_leading, back_by_form, turner, fourth_by_leaders,
+                             leader_orders, fading_steps, tracing_rows, parting_square, falls_apart_both_ways, walls_of,
+                             simple_leads, simple_kinds, kind_things, hull_numbers, beside_numbers, turned_kinds):
+                with self.subTest(size=book.size, function=function.__name__):
+                    self.within(5, function, book)
 
     def test_faults(self):
         for tables in (dense.in_rows(dense.wrong_joins(97), dense.last_apart(97)),

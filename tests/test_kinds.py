@@ -133,7 +133,8 @@ class KindsTest(Case):
     def test_groups(self):
         tables = [[[0]], samples.cyclic(2), samples.cyclic(3), samples.cyclic(4), samples.cyclic(5), samples.cyclic(7),
                   samples.cyclic(9), samples.FOUR, samples.SIX, samples.EIGHT, samples.QUATERNIONS, samples.TWELVE,
-                  samples.cyclic(13), samples.cyclic(15)]
+                  samples.cyclic(13), samples.cyclic(15), samples.TEN, samples.FOURTEEN,
+                  samples.beside_groups(samples.QUATERNIONS, samples.cyclic(2))]
         for table, prime in itertools.product(tables, (2, 3, 5, 7, 97)):
             with self.subTest(size=len(table), prime=prime):
                 kinds = simple_kinds(group_book(prime, table))

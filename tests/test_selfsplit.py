@@ -86,7 +86,8 @@ class SelfsplitTest(Case):
 
     def test_of_large_books(self):
         many = {"sixteen over 97": 16, "sixteen over 2, other way": 1, "twelve over 2": 12, "eight over 2": 8,
-                "quaternions over 3": 8, "shift 4 over 5": 4, "squares of two": 1, "brackets 13": 1, "slips": 4}
+                "quaternions over 3": 8, "shift 4 over 5": 4, "squares of two": 1, "brackets 13": 1, "slips": 4,
+                "ten over 2": 10, "fourteen over 97, other basis": 14}
         for name, book in samples.large_books().items():
             with self.subTest(name=name):
                 self.assertEqual(len(selfsplit_things(book)), many[name])
