@@ -1,5 +1,6 @@
 """How often simple kinds come in hulls, and in two of them beside one another."""
 
+from splitbooks.books import MOST_THINGS
 from splitbooks.checks import need_book
 from splitbooks.joiners import Joiner, led_behind
 from splitbooks.kinds import kinds_of, simple_kinds
@@ -7,14 +8,12 @@ from splitbooks.linear import across, combined, cube_led, first_place, flat, led
 from splitbooks.packs import Fields, total
 from splitbooks.tables import row_split
 
-MOST_STEPS = 16
-
 
 def sharpened(joiner, row):
     """The power of row that, joined to itself, is itself: row is so up to what fades."""
     # What fades within sums of powers of row is 0 once it stands there as often as there are things.
     exponent = 1
-    while exponent < MOST_STEPS:
+    while exponent < MOST_THINGS:
         row = joiner.power(row, joiner.prime)
         exponent = exponent * joiner.prime
     return row
