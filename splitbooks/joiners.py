@@ -1,6 +1,6 @@
 """Joining, again and again, by the same table."""
 
-from splitbooks.linear import combined, flat, folded
+from splitbooks.linear import combined, flat, folded, inverse
 from splitbooks.packs import Fields, total
 
 
@@ -46,3 +46,10 @@ class Joiner:
 def led_behind(prime, cube, row):
     """The map that leads each row to it joined to row."""
     return tuple([combined(row, square, prime) for square in cube])
+
+
+def row_undone(prime, cube, one, row):
+    """The row that, joined to row in either sequence, is one; None if there is none."""
+    # What undoes a row from one side does so from the other.
+    undone = inverse(led_behind(prime, cube, row), prime)
+    return None if undone is None else combined(one, undone, prime)

@@ -85,8 +85,8 @@ class Words:
         return (place, pairs, [(i, j, combined(row, self.undone, self.book.prime)) for i, j, row in others])
 
 
-class LikenessSearch:
-    """The search for the least likeness: the words of one are led, in their sequence, to the least that may do."""
+class LeadingSearch:
+    """The search for leadings: the words of one are led, in their sequence, to the least that may do."""
 
     def __init__(self, one, other):
         self.one = one
@@ -120,6 +120,23 @@ class LikenessSearch:
                     return found
         return None
 
+    def every(self, images, at):
+        """The ascending list of the leadings that lead the first words to images, the stages ahead of at being done."""
+        if at == len(self.choices):
+            rows = led_all(self.words.undone, images, self.one.prime)
+            return [rows] if is_leading(self.one, self.other, rows) else []
+        found = []
+        for row in self.choices[at]:
+            more = self.led_on(images + [row], at)
+            if more is not None:
+                found.extend(self.every(more, at + 1))
+        return found
+
+
+def leadings_between(one, other):
+    """The ascending list of all leadings from one to other, of the same prime."""
+    return LeadingSearch(one, other).every([other.one], 0)
+
 
 def likeness(one, other):
     """The least leading from one to other that a map undoes; None if there is none."""
@@ -127,7 +144,7 @@ def likeness(one, other):
     if one.size != other.size:
         return None
     need_few(one.prime, (one.size - 1) ** 2, MOST_MAPS)
-    return LikenessSearch(one, other).least([other.one], 0)
+    return LeadingSearch(one, other).least([other.one], 0)
 
 
 def are_alike(one, other):

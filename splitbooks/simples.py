@@ -7,7 +7,7 @@ from splitbooks.idempotents import at_places, central_rows, least_parts
 from splitbooks.joiners import Joiner
 from splitbooks.linear import across, combined, cube_led, first_place, flat, led_all
 from splitbooks.powers import number_undone
-from splitbooks.stairs import kernel
+from splitbooks.stairs import solved
 from splitbooks.swallowed import multiplied_by, swallowed_left
 from splitbooks.tables import halves_met, row_counted, turned_cube
 from splitbooks.values import is_square, rows_of
@@ -57,10 +57,8 @@ def left_keeper(book, things):
     # What each row is to become; and what it becomes with each row behind it.
     wanted = flat([at_places(row, places) for row in rows])
     behind = [flat([at_places(line[at], places) for line in joined]) for at in range(len(rows))]
-    relations = kernel([wanted] + behind, prime)
-    if not relations or relations[0][0] == 0:
-        return None
-    return combined([-number for number in relations[0][1:]], rows, prime)
+    numbers = solved(behind, wanted, prime)
+    return None if numbers is None else combined(numbers, rows, prime)
 
 
 def map_trace(book, rows):

@@ -90,3 +90,11 @@ def kernel(rows, prime):
             known.append((place, undone, rest, sides.packed(numbers)))
     found.reverse()
     return found
+
+
+def solved(rows, wanted, prime):
+    """Numbers for which the sum of these times the rows is wanted, a row as long; None if there are none."""
+    relations = kernel([wanted] + rows, prime)
+    if not relations or relations[0][0] == 0:
+        return None
+    return tuple([-number % prime for number in relations[0][1:]])

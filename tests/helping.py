@@ -35,6 +35,22 @@ class Case(unittest.TestCase):
         for strange in STRANGE:
             self.refused(errors.BadBook, None, function, *[strange] * many, *[strange] * len(others))
 
+    def wants_rooms(self, function, many, *others):
+        """BadRoom(None) for each of the first many parameters, then BadShape("book"), ahead of all that is wrong else."""
+        from splitbooks.families import group_book
+        from splitbooks.rooms import own_room
+        book = group_book(3, [[0, 1], [1, 0]])
+        rooms = [own_room(book), own_room(group_book(5, [[0]]))]
+        for strange in STRANGE + [[rooms[0]], (rooms[0],), book, rooms[0].leads, 3]:
+            for place in range(many):
+                args = [rooms[at % 2] for at in range(many)]
+                args[place] = strange
+                self.refused(errors.BadRoom, None, function, *args, *others)
+            self.refused(errors.BadRoom, None, function, *[strange] * many, *[None] * len(others))
+        if many == 2:
+            self.refused(errors.BadShape, "book", function, *rooms, *others)
+            self.refused(errors.BadShape, "book", function, *rooms[::-1], *[None] * len(others))
+
     def unchanged(self, function, *args):
         """What function returns; the lists among args are the same afterwards."""
         before = copy.deepcopy(args)

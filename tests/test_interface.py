@@ -4,7 +4,9 @@ import importlib
 import inspect
 import unittest
 
-from splitbooks import families
+from splitbooks import books, bothrooms, families, rooms
+from splitbooks.bothrooms import free_both
+from splitbooks.rooms import own_room
 
 INTERFACE = {
     "books": {"what_is_wrong": "prime joins one splits counts"},
@@ -39,8 +41,34 @@ INTERFACE = {
         "map_trace": "book rows", "trace_by_halves": "book rows", "falls_apart_both_ways": "book", "middle": "book",
         "walls_of": "book"},
     "kinds": {"simple_leads": "book", "simple_kinds": "book"},
+    "doubles": {"double": "book", "from_things": "book", "from_rows": "book", "double_crossing": "book"},
+    "crossings": {"is_crossing": "book thing", "crossing_undone": "book square", "crossings": "book"},
+    "strands": {"three_strands": "book square", "thing_undone": "book thing", "crossing_thing": "book square"},
+    "leaders": {
+        "leading_thing": "book rows", "square_leader": "book", "selfsplit_leaders": "book", "even_form": "book"},
+    "rooms": {
+        "room_fault": "book leads", "led_guest": "room thing guest", "own_room": "book", "count_room": "book"},
+    "besides": {
+        "beside_rooms": "one other", "rooms_together": "one other", "turned_room": "room", "turned_back_room": "room"},
+    "alongs": {
+        "is_along": "one other thing", "alongs": "one other", "left_alone": "room", "grown_guests": "room guests",
+        "is_inner": "room thing", "inner_room": "room guests", "left_over": "room guests"},
+    "means": {"mean_map": "one other rows", "spread_map": "room", "parting": "room guests"},
+    "falls": {"falls_fault": "book falls", "falls_of": "room", "leads_of": "book falls"},
+    "bothrooms": {
+        "kept_guests": "both", "told_by_kept": "both guest", "free_both": "book many", "room_both": "room",
+        "falls_both": "book falls", "rows_both": "book"},
     "numbers": {"kind_things": "book", "hull_numbers": "book", "beside_numbers": "book", "turned_kinds": "book"},
 }
+
+
+CLASSES = {
+    "books": {"Splitbook": ("prime joins one splits counts", "prime size joins one splits counts back")},
+    "rooms": {"Room": ("book leads", "book size leads")},
+    "bothrooms": {"BothRoom": ("book leads falls", "book size leads falls")},
+}
+# For parameters that are not the same kind of thing in all modules.
+OF_ROOMS = ("besides", "alongs", "means")
 
 
 class InterfaceTest(unittest.TestCase):
@@ -59,34 +87,48 @@ class InterfaceTest(unittest.TestCase):
                         self.assertEqual(part.kind, inspect.Parameter.POSITIONAL_OR_KEYWORD)
                         self.assertIs(part.default, inspect.Parameter.empty)
 
-    def test_splitbook(self):
-        books = importlib.import_module("splitbooks.books")
-        self.assertTrue(inspect.isclass(books.Splitbook))
-        self.assertEqual(books.Splitbook.__module__, "splitbooks.books")
-        self.assertEqual(list(inspect.signature(books.Splitbook).parameters), "prime joins one splits counts".split())
-        self.assertIn("__init__", vars(books.Splitbook))
-        self.assertIn("__eq__", vars(books.Splitbook))
+    def test_classes(self):
+        for module, classes in CLASSES.items():
+            held = importlib.import_module("splitbooks." + module)
+            for name, (parameters, attributes) in classes.items():
+                with self.subTest(name=name):
+                    made = getattr(held, name)
+                    self.assertTrue(inspect.isclass(made))
+                    self.assertEqual(made.__module__, "splitbooks." + module)
+                    self.assertEqual(list(inspect.signature(made).parameters), parameters.split())
+                    self.assertIn("__init__", vars(made))
+                    self.assertIn("__eq__", vars(made))
+                    self.assertEqual(sorted(vars(self.some_object(name))), sorted(attributes.split()))
+
+    def some_object(self, name):
         book = families.group_book(3, [[0, 1], [1, 0]])
-        self.assertEqual(sorted(vars(book)), sorted("prime size joins one splits counts back".split()))
+        return {"Splitbook": book, "Room": own_room(book), "BothRoom": free_both(book, 1)}[name]
 
     def test_parameters_by_name(self):
         book = families.group_book(table=[[0, 1], [1, 0]], prime=3)
         values = {"book": book, "one": book, "other": book, "first": (1, 0), "second": (0, 1), "thing": (1, 0),
                   "things": [(1, 0)], "square": ((1, 0), (0, 1)), "rows": ((1, 0), (1, 1)), "prime": 3, "order": 2,
-                  "root": 2, "row": (0, 1), "table": [[0]], "brackets": [[[0]]], "powers": [[1]]}
+                  "root": 2, "row": (0, 1), "table": [[0]], "brackets": [[[0]]], "powers": [[1]],
+                  "room": own_room(book), "guest": (1, 2), "guests": [(1, 1)], "leads": own_room(book).leads,
+                  "falls": book.splits, "both": free_both(book, 2), "many": 2}
         special = {"convolved": {"first": book.back, "second": book.back}, "convolved_back": {"first": book.back},
                    "squares_joined": {"first": book.back, "second": book.back}, "betweens": {"second": (1, 0)},
+                   "crossing_undone": {"square": ((1, 0), (0, 0))}, "crossing_thing": {"square": ((1, 0), (0, 0))},
+                   "told_by_kept": {"guest": (1, 0, 0, 2)},
                    "what_is_wrong": {"joins": [[[1]]], "one": [1], "splits": [[[1]]], "counts": [1]}}
         for module, functions in INTERFACE.items():
             held = importlib.import_module("splitbooks." + module)
             for name, parameters in functions.items():
                 with self.subTest(module=module, name=name):
                     named = {word: values.get(word) for word in parameters.split()}
+                    if module in OF_ROOMS:
+                        named.update({word: values["room"] for word in ("one", "other") if word in named})
                     named.update(special.get(name, {}))
                     found = getattr(held, name)(**named)
                     again = getattr(held, name)(*[named[word] for word in parameters.split()])
                     self.assertEqual(found, again)
-        books = importlib.import_module("splitbooks.books")
+        self.assertEqual(rooms.Room(leads=book.joins, book=book), own_room(book))
+        self.assertEqual(bothrooms.BothRoom(falls=book.splits, leads=book.joins, book=book), free_both(book, 1))
         self.assertEqual(books.Splitbook(counts=[1], splits=[[[1]]], one=[1], joins=[[[1]]], prime=3),
                          books.Splitbook(3, [[[1]]], [1], [[[1]]], [1]))
 
