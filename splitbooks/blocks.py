@@ -67,8 +67,8 @@ class Rest:
                 return found[sizes.index(min(sizes))]
         return part
 
-    def least_lot(self, part, lot, degree):
-        """The lot of a row that, joined to itself, is itself, a part of part of which no further one can be taken off.
+    def least_part(self, part, lot, degree):
+        """A row that, joined to itself, is itself, a part of part of which no further one can be taken off.
 
         One of the parts is given, with its lot and its degree.
         """
@@ -77,8 +77,7 @@ class Rest:
         while len(rows) > degree:
             part = self.smaller_part(part, rows)
             rows = self.corner(part, rows)
-            lot = self.lot(part)
-        return lot
+        return part
 
 
 def sums_tried(prime, rows):

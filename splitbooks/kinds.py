@@ -27,7 +27,8 @@ def kinds_of(book):
         lot = rest.lot(part)
         degree = rest.degree(part, lot)
         # The lot of a least part is simple: there is nothing between it and 0.
-        leads = leads_on(rest, rest.least_lot(part, lot, degree))
+        least = rest.least_part(part, lot, degree)
+        leads = leads_on(rest, lot if least == part else rest.lot(least))
         kind = (len(leads[0]), degree, traces_of(book.prime, leads))
         found.append((kind, leads, part))
     return rest, sorted(found)

@@ -8,6 +8,8 @@ WORDS = (
     "44", "45", "46", "47", "48", "49", "4a", "4b", "4c", "4d", "4e", "4f", "50", "51", "52", "53", "54",
     "55", "56", "57", "58", "59", "5a", "5b", "5c", "5d", "5e", "5f", "60")
 BITS_OF_WORDS = 7
+MANY_FIELDS = 128
+FEW_FIELDS = 64
 
 
 def total(numbers, packs):
@@ -51,7 +53,16 @@ class Fields:
         """The row of the numbers of a pack, modulo the prime."""
         mask = self.mask
         prime = self.prime
-        return tuple([(pack >> shift & mask) % prime for shift in self.shifts])
+        if self.many <= MANY_FIELDS:
+            return tuple([(pack >> shift & mask) % prime for shift in self.shifts])
+        # To move a long number takes as long for each field: so it is cut into short ones.
+        text = f"{pack:x}".zfill(self.many * self.digits)
+        found = []
+        for start in range(0, self.many, FEW_FIELDS):
+            end = min(start + FEW_FIELDS, self.many)
+            part = int(text[start * self.digits:end * self.digits], 16)
+            found.extend([(part >> shift & mask) % prime for shift in self.shifts[start - end:]])
+        return tuple(found)
 
     def number_at(self, pack, place):
         """The number of a pack at a place, modulo the prime."""

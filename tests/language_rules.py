@@ -69,22 +69,25 @@ class Source:
         self.text = text
         self.lines = text.split("\n")
         self.tree = ast.parse(text)
+        self.all_nodes = list(ast.walk(self.tree))
         self.parent = {}
-        for node in ast.walk(self.tree):
+        for node in self.all_nodes:
             for child in ast.iter_child_nodes(node):
                 self.parent[child] = node
+        self.methods = {part.name for node in self.classes() for part in node.body if isinstance(part, ast.FunctionDef)}
+        self.stored = {node.attr for node in self.nodes(ast.Attribute) if isinstance(node.ctx, ast.Store)}
 
     def told(self, rule, node, words):
         return f"{rule} {self.name}:{getattr(node, 'lineno', node)}: {words}"
 
     def functions(self):
-        return [node for node in ast.walk(self.tree) if isinstance(node, ast.FunctionDef)]
+        return self.nodes(ast.FunctionDef)
 
     def classes(self):
-        return [node for node in ast.walk(self.tree) if isinstance(node, ast.ClassDef)]
+        return self.nodes(ast.ClassDef)
 
     def nodes(self, *kinds):
-        return [node for node in ast.walk(self.tree) if isinstance(node, kinds)]
+        return [node for node in self.all_nodes if isinstance(node, kinds)]
 
     def in_function(self, node):
         while node in self.parent:
@@ -276,7 +279,7 @@ def class_faults(source, sources):
 def statement_faults(source):
     """L6, L7, L19, L20, L27: statements and expressions."""
     told = []
-    for node in ast.walk(source.tree):
+    for node in source.all_nodes:
         if isinstance(node, ast.stmt) and not isinstance(node, STATEMENTS):
             told.append(source.told("L6", node, type(node).__name__))
         if isinstance(node, (ast.Div, ast.MatMult)) or (
@@ -332,14 +335,14 @@ def is_literal_range(node):
 def call_faults(source, sources):
     """L7, L8, L22, L23, L24, L25: builtins and methods, and how they are called."""
     told = []
-    methods = {part.name for other in sources for node in other.classes() for part in node.body
-               if isinstance(part, ast.FunctionDef)}
+    methods = {name for other in sources for name in other.methods}
+    known = METHODS | methods | attribute_names(sources)
     for node in source.nodes(ast.Name):
         if node.id in ALL_BUILTINS and node.id not in BUILTINS and isinstance(node.ctx, ast.Load):
             told.append(source.told("L8", node, f"the builtin {node.id}"))
     for node in source.nodes(ast.Call):
         if isinstance(node.func, ast.Attribute):
-            if node.func.attr not in METHODS | methods | attribute_names(sources):
+            if node.func.attr not in known:
                 told.append(source.told("L25", node, f"the method {node.func.attr}"))
         if isinstance(node.func, ast.Name):
             word = node.func.id
@@ -364,7 +367,7 @@ def call_faults(source, sources):
 
 def attribute_names(sources):
     """All attributes that some method of the package assigns."""
-    return {node.attr for source in sources for node in source.nodes(ast.Attribute) if isinstance(node.ctx, ast.Store)}
+    return {name for source in sources for name in source.stored}
 
 
 def is_iterated(source, node):
@@ -418,7 +421,7 @@ def is_doc(source, node):
 def bound_names(source):
     """All (node, name, kind) that a file binds; the kind is level, local, method or attribute."""
     told = []
-    for node in ast.walk(source.tree):
+    for node in source.all_nodes:
         if isinstance(node, ast.FunctionDef):
             inside = isinstance(source.parent[node], ast.ClassDef)
             level = source.parent[node] is source.tree

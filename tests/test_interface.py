@@ -4,9 +4,12 @@ import importlib
 import inspect
 import unittest
 
-from splitbooks import books, bothrooms, families, rooms
+from splitbooks import books, bothrooms, crossrooms, doingtables, families, rooms
 from splitbooks.bothrooms import free_both
-from splitbooks.rooms import own_room
+from splitbooks.crossrooms import turning_cross
+from splitbooks.doingtables import book_table, turning_doing
+from splitbooks.doubles import double
+from splitbooks.rooms import count_room, own_room
 
 INTERFACE = {
     "books": {"what_is_wrong": "prime joins one splits counts"},
@@ -58,6 +61,34 @@ INTERFACE = {
     "bothrooms": {
         "kept_guests": "both", "told_by_kept": "both guest", "free_both": "book many", "room_both": "room",
         "falls_both": "book falls", "rows_both": "book"},
+    "turning": {"turning_room": "book", "turning_back_room": "book"},
+    "crossrooms": {
+        "turning_cross": "book", "turning_back_cross": "book", "crossing_cross": "room square", "beside_cross": "one other",
+        "room_exchange": "one other", "double_room": "cross", "cross_of": "book room"},
+    "inner": {
+        "inner_fault": "book things", "side_fault": "book things side", "inner_by": "book things",
+        "side_by": "book things side", "shared_span": "book things more", "inner_book": "book things",
+        "inner_spans": "book", "side_spans": "book side"},
+    "freeing": {
+        "free_left": "book things", "free_right": "book things", "is_free_left": "book things thing",
+        "is_free_right": "book things thing"},
+    "leftovers": {
+        "lost_left": "book things", "lost_right": "book things", "unshifted": "book things side",
+        "mate": "book things side", "stays": "book things", "left_by": "book things",
+        "leading_to_left": "book things", "together_fit": "book things more"},
+    "factors": {"is_bare": "book", "factors": "book"},
+    "crossed": {
+        "pair_fault": "one other moves turns", "crossed_group": "one other moves turns",
+        "crossed_from": "table first second", "crossed_pairs": "one other",
+        "crossed_swapped": "one other moves turns", "crossed_book": "prime one other moves turns"},
+    "doingtables": {
+        "table_fault": "prime joins one", "book_table": "book", "full_table": "table wide",
+        "is_table_leading": "one other thing", "doing_fault": "book table doing", "is_doing": "book table doing",
+        "done": "book table doing first second", "unmoved": "book table doing", "plain_doing": "book table",
+        "turning_doing": "book"},
+    "smash": {
+        "smash": "book table doing", "table_in_smash": "book table doing", "book_in_smash": "book table doing",
+        "smash_doing": "book table doing", "twice_smashed": "book table doing"},
     "numbers": {"kind_things": "book", "hull_numbers": "book", "beside_numbers": "book", "turned_kinds": "book"},
 }
 
@@ -66,9 +97,9 @@ CLASSES = {
     "books": {"Splitbook": ("prime joins one splits counts", "prime size joins one splits counts back")},
     "rooms": {"Room": ("book leads", "book size leads")},
     "bothrooms": {"BothRoom": ("book leads falls", "book size leads falls")},
+    "crossrooms": {"CrossRoom": ("book leads falls", "book size leads falls")},
+    "doingtables": {"ProductTable": ("prime joins one", "prime size joins one")},
 }
-# For parameters that are not the same kind of thing in all modules.
-OF_ROOMS = ("besides", "alongs", "means")
 
 
 class InterfaceTest(unittest.TestCase):
@@ -102,7 +133,8 @@ class InterfaceTest(unittest.TestCase):
 
     def some_object(self, name):
         book = families.group_book(3, [[0, 1], [1, 0]])
-        return {"Splitbook": book, "Room": own_room(book), "BothRoom": free_both(book, 1)}[name]
+        return {"Splitbook": book, "Room": own_room(book), "BothRoom": free_both(book, 1),
+                "CrossRoom": turning_cross(book), "ProductTable": book_table(book)}[name]
 
     def test_parameters_by_name(self):
         book = families.group_book(table=[[0, 1], [1, 0]], prime=3)
@@ -110,25 +142,40 @@ class InterfaceTest(unittest.TestCase):
                   "things": [(1, 0)], "square": ((1, 0), (0, 1)), "rows": ((1, 0), (1, 1)), "prime": 3, "order": 2,
                   "root": 2, "row": (0, 1), "table": [[0]], "brackets": [[[0]]], "powers": [[1]],
                   "room": own_room(book), "guest": (1, 2), "guests": [(1, 1)], "leads": own_room(book).leads,
-                  "falls": book.splits, "both": free_both(book, 2), "many": 2}
+                  "falls": book.splits, "both": free_both(book, 2), "many": 2, "cross": turning_cross(book), "side": 1,
+                  "more": [(0, 1)], "moves": [[0, 1], [0, 1]], "turns": [[0, 0], [1, 1]], "doing": turning_doing(book),
+                  "wide": 2, "joins": [[[1]]]}
+        of_modules = {
+            "besides": {"one": own_room(book), "other": own_room(book)},
+            "alongs": {"one": own_room(book), "other": own_room(book)},
+            "means": {"one": own_room(book), "other": own_room(book)},
+            "crossrooms": {"one": turning_cross(book), "other": turning_cross(book)},
+            "inner": {"more": [(1, 1)]}, "leftovers": {"more": [(1, 0)]},
+            "crossed": {"one": [[0, 1], [1, 0]], "other": [[0, 1], [1, 0]], "table": [[0, 1], [1, 0]], "first": [0, 1],
+                        "second": [0]},
+            "doingtables": {"table": book_table(book), "one": book_table(book), "other": book_table(book)},
+            "smash": {"table": book_table(book)}}
         special = {"convolved": {"first": book.back, "second": book.back}, "convolved_back": {"first": book.back},
                    "squares_joined": {"first": book.back, "second": book.back}, "betweens": {"second": (1, 0)},
                    "crossing_undone": {"square": ((1, 0), (0, 0))}, "crossing_thing": {"square": ((1, 0), (0, 0))},
-                   "told_by_kept": {"guest": (1, 0, 0, 2)},
+                   "crossing_cross": {"square": ((1, 0), (0, 0))}, "table_fault": {"one": [1]},
+                   "cross_of": {"room": count_room(double(book))}, "told_by_kept": {"guest": (1, 0, 0, 2)},
                    "what_is_wrong": {"joins": [[[1]]], "one": [1], "splits": [[[1]]], "counts": [1]}}
         for module, functions in INTERFACE.items():
             held = importlib.import_module("splitbooks." + module)
             for name, parameters in functions.items():
                 with self.subTest(module=module, name=name):
                     named = {word: values.get(word) for word in parameters.split()}
-                    if module in OF_ROOMS:
-                        named.update({word: values["room"] for word in ("one", "other") if word in named})
+                    more = of_modules.get(module, {})
+                    named.update({word: more[word] for word in more if word in named})
                     named.update(special.get(name, {}))
                     found = getattr(held, name)(**named)
                     again = getattr(held, name)(*[named[word] for word in parameters.split()])
                     self.assertEqual(found, again)
         self.assertEqual(rooms.Room(leads=book.joins, book=book), own_room(book))
         self.assertEqual(bothrooms.BothRoom(falls=book.splits, leads=book.joins, book=book), free_both(book, 1))
+        self.assertEqual(crossrooms.CrossRoom(falls=book.splits, leads=[[[1, 0], [0, 1]]] * 2, book=book).size, 2)
+        self.assertEqual(doingtables.ProductTable(one=book.one, joins=book.joins, prime=3), book_table(book))
         self.assertEqual(books.Splitbook(counts=[1], splits=[[[1]]], one=[1], joins=[[[1]]], prime=3),
                          books.Splitbook(3, [[[1]]], [1], [[[1]]], [1]))
 
