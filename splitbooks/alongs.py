@@ -1,7 +1,7 @@
 """Maps that go along with what things lead to; guests that things leave alone; parts of rooms, and what is left."""
 
 from splitbooks.errors import BadBasis, BadRow, TooMany
-from splitbooks.linear import first_place, flat, folded, inverse, led_all, plain, rest_beyond, tidy_list
+from splitbooks.linear import down_map, first_place, flat, folded, inverse, led_all, places_left, tidy_list
 from splitbooks.makers import makers_of
 from splitbooks.rooms import Room, need_room, need_two_rooms
 from splitbooks.stairs import kernel
@@ -132,8 +132,6 @@ def left_over(room, guests):
         return None
     prime = room.book.prime
     tidy = tidy_list(rows, prime)
-    begun = [first_place(row) for row in tidy]
-    places = [place for place in range(room.size) if place not in begun]
-    beyond = [rest_beyond(guest, tidy, prime) for guest in plain(room.size)]
-    down = [[row[place] for place in places] for row in beyond]
+    places = places_left(tidy, room.size)
+    down = down_map(tidy, room.size, prime)
     return Room(room.book, [led_all([square[place] for place in places], down, prime) for square in room.leads])

@@ -2,7 +2,7 @@
 
 from splitbooks.checks import need_book, thing_of
 from splitbooks.errors import BadSelfsplit
-from splitbooks.linear import across, combined, cube_led, flat, plain, rest_beyond, tidy_list
+from splitbooks.linear import across, beyond_map, combined, cube_led, flat, plain, tidy_list
 from splitbooks.selfsplit import is_selfsplit, selfsplit_things
 from splitbooks.stairs import kernel
 from splitbooks.tables import rows_paired
@@ -33,8 +33,8 @@ def _next_layer(book, first, last):
     """The tidy list of the layer that follows last, first being the first layer."""
     prime = book.prime
     # Only pairs with a first half beyond the first layer and a second half beyond the last one leave something.
-    beyond_first = [rest_beyond(thing, first, prime) for thing in plain(book.size)]
-    beyond_last = [rest_beyond(thing, last, prime) for thing in plain(book.size)]
+    beyond_first = beyond_map(first, book.size, prime)
+    beyond_last = beyond_map(last, book.size, prime)
     squares = cube_led(book.splits, None, across(beyond_first), beyond_last, prime)
     return kernel([flat(square) for square in squares], prime)
 

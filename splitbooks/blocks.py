@@ -2,7 +2,7 @@
 
 from splitbooks.idempotents import central_rows, least_parts
 from splitbooks.joiners import Joiner
-from splitbooks.linear import combined, first_place, led_all, plain, rest_beyond, tidy_list
+from splitbooks.linear import combined, down_map, led_all, places_left, tidy_list
 from splitbooks.selves import digit
 from splitbooks.stairs import Stairs
 
@@ -14,11 +14,9 @@ class Rest:
     """
 
     def __init__(self, prime, joins, one, fading):
-        begun = [first_place(row) for row in fading]
         self.prime = prime
-        self.things = [at for at in range(len(joins)) if at not in begun]
-        beyond = [rest_beyond(thing, fading, prime) for thing in plain(len(joins))]
-        self.down = tuple([tuple([row[at] for at in self.things]) for row in beyond])
+        self.things = places_left(fading, len(joins))
+        self.down = down_map(fading, len(joins), prime)
         self.joins = [led_all([joins[i][j] for j in self.things], self.down, prime) for i in self.things]
         self.one = combined(one, self.down, prime)
         self.joiner = Joiner(prime, self.joins)

@@ -4,8 +4,8 @@ from splitbooks.books import Splitbook
 from splitbooks.checks import need_book, need_few, things_of
 from splitbooks.errors import BadInner, BadNumber
 from splitbooks.idempotents import at_places
-from splitbooks.linear import first_place, led_all, tidy_list
-from splitbooks.spans import SpanGrower, beyond_map, span_fault
+from splitbooks.linear import beyond_map, first_place, led_all, tidy_list
+from splitbooks.spans import SpanGrower, span_fault
 from splitbooks.stairs import kernel
 from splitbooks.tables import all_joined, row_counted, row_split
 from splitbooks.values import is_number_within
@@ -66,7 +66,7 @@ def rows_shared(prime, one, other, size):
     """The tidy list of the rows that are sums of multiples of each of two tidy lists."""
     if not one or not other:
         return []
-    numbers = kernel(led_all(one, beyond_map(prime, other, size), prime), prime)
+    numbers = kernel(led_all(one, beyond_map(other, size, prime), prime), prime)
     return tidy_list(led_all(numbers, one, prime), prime)
 
 

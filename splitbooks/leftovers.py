@@ -7,8 +7,9 @@ from splitbooks.fading import lot_of
 from splitbooks.freeing import side_of_any
 from splitbooks.idempotents import at_places
 from splitbooks.inner import book_within, inner_of, need_side, rows_shared, span_of
-from splitbooks.linear import across, combined, first_place, flat, halves_led, led_all, tidy_list
-from splitbooks.spans import SpanGrower, beyond_map, span_fault
+from splitbooks.linear import (
+    across, beyond_map, combined, down_map, first_place, flat, halves_led, led_all, places_left, tidy_list)
+from splitbooks.spans import SpanGrower, span_fault
 from splitbooks.stairs import kernel
 from splitbooks.tables import row_counted
 
@@ -38,7 +39,7 @@ def unshifted(book, things, side):
     tidy = span_of(book, things)
     need_side(side)
     prime = book.prime
-    beyond = beyond_map(prime, tidy, book.size)
+    beyond = beyond_map(tidy, book.size, prime)
     one = combined(book.one, beyond, prime)
     rows = []
     for at, square in enumerate(book.splits):
@@ -81,17 +82,11 @@ def stays(book, things):
     return stays_lost(book, inner_of(book, things)) is not None
 
 
-def down_map(book, lost):
-    """The map that leads each thing to what it becomes if the rows of the tidy list lost are 0, and the places left."""
-    begun = [first_place(row) for row in lost]
-    places = [place for place in range(book.size) if place not in begun]
-    return tuple([at_places(row, places) for row in beyond_map(book.prime, lost, book.size)]), places
-
-
 def book_left(book, lost):
     """The splitbook of what is left if the rows of the tidy list lost are 0."""
     prime = book.prime
-    down, places = down_map(book, lost)
+    places = places_left(lost, book.size)
+    down = down_map(lost, book.size, prime)
     joins = [led_all([book.joins[i][j] for j in places], down, prime) for i in places]
     splits = [halves_led(book.splits[i], down, down, prime) for i in places]
     return Splitbook(prime, joins, combined(book.one, down, prime), splits, at_places(book.counts, places))
@@ -106,8 +101,7 @@ def left_by(book, things):
 def leading_to_left(book, things):
     """The map that leads each thing to what it becomes in what is left by an inner span that stays."""
     need_book(book)
-    down, _ = down_map(book, lost_if_stays(book, inner_of(book, things)))
-    return down
+    return down_map(lost_if_stays(book, inner_of(book, things)), book.size, book.prime)
 
 
 def told_within(tidy, rows):
@@ -128,9 +122,8 @@ def together_fit(book, things, more):
     shared = rows_shared(book.prime, first, second, book.size)
     within = book_within(book, second)
     lost = lost_if_stays(within, told_within(second, shared))
-    _, kept = down_map(within, lost)
     both = SpanGrower(book).grown(tidy_list(first + second, book.prime))
     around = book_within(book, both)
-    down, _ = down_map(around, lost_if_stays(around, told_within(both, first)))
-    rows = told_within(both, [second[place] for place in kept])
+    down = down_map(lost_if_stays(around, told_within(both, first)), around.size, book.prime)
+    rows = told_within(both, [second[place] for place in places_left(lost, within.size)])
     return book_left(within, lost), led_all(rows, down, book.prime)

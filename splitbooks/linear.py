@@ -95,6 +95,23 @@ def rest_beyond(row, told, prime):
     return combined(numbers, [row] + told, prime)
 
 
+def beyond_map(tidy, size, prime):
+    """The map that leads each row of this size to what is left of it beyond a tidy list: 0 just for its sums."""
+    return tuple([rest_beyond(row, tidy, prime) for row in plain(size)])
+
+
+def places_left(tidy, size):
+    """The places, of so many, at which no row of a tidy list has its first number that is not 0."""
+    begun = [first_place(row) for row in tidy]
+    return [place for place in range(size) if place not in begun]
+
+
+def down_map(tidy, size, prime):
+    """The map that leads each row to what is left of it beyond a tidy list, told by its numbers at places_left."""
+    places = places_left(tidy, size)
+    return tuple([tuple([row[place] for place in places]) for row in beyond_map(tidy, size, prime)])
+
+
 def tidy_list(rows, prime):
     """The tidy list of rows of one size."""
     if not rows or not rows[0]:

@@ -2,9 +2,9 @@
 
 from splitbooks.alongs import along_differences, inner_rows, need_few_numbers
 from splitbooks.axes import cube_flat, moved, summed
-from splitbooks.errors import BadMap, TooMany
+from splitbooks.errors import BadMap
 from splitbooks.forms import passing_square
-from splitbooks.linear import combined, first_place, flat, folded, inverse, led_all, plain, tidy_list, unit
+from splitbooks.linear import combined, flat, folded, inverse, led_all, places_left, plain, tidy_list, unit
 from splitbooks.makers import makers_of
 from splitbooks.powers import number_undone
 from splitbooks.rooms import need_room, need_two_rooms
@@ -12,9 +12,6 @@ from splitbooks.stairs import solved
 from splitbooks.swallowed import swallowed_left
 from splitbooks.tables import row_counted
 from splitbooks.values import is_map, rows_of
-
-MOST_SPREAD = 10
-MOST_NUMBERS = 100
 
 
 def _backs_led(room):
@@ -48,8 +45,7 @@ def _all_means(room):
 def spread_map(room):
     """A map of which the mean is the plain map; None if there is none."""
     need_room(room)
-    if room.size > MOST_SPREAD:
-        raise TooMany(MOST_NUMBERS)
+    need_few_numbers(room.size * room.size)
     prime = room.book.prime
     wanted = flat(plain(room.size))
     count = row_counted(prime, room.book.counts, swallowed_left(room.book))
@@ -87,8 +83,8 @@ def parting(room, guests):
     if len(rows) == room.size:
         return plain(room.size)
     prime = room.book.prime
-    begun = [first_place(row) for row in tidy_list(rows, prime)]
-    basis = rows + tuple([unit(room.size, place) for place in range(room.size) if place not in begun])
+    places = places_left(tidy_list(rows, prime), room.size)
+    basis = rows + tuple([unit(room.size, place) for place in places])
     undone = inverse(basis, prime)
     lost = _rest_parted(room, basis, undone, len(rows))
     if lost is None:

@@ -1,6 +1,6 @@
 """The rows that split into themselves twice, found from bare splits and counts."""
 
-from splitbooks.linear import across, combined, first_place, flat, folded, inverse, led_all, plain, rest_beyond
+from splitbooks.linear import across, beyond_map, combined, first_place, flat, folded, inverse, led_all, plain
 from splitbooks.powers import number_undone
 from splitbooks.stairs import Stairs, kernel
 from splitbooks.tables import row_counted
@@ -21,7 +21,7 @@ def even_within(prime, splits):
     if len(rows) == size or not rows:
         return rows
     # It is enough that what is left of each split, a first half taken off, stays the same.
-    beyond = [rest_beyond(thing, rows, prime) for thing in plain(size)]
+    beyond = beyond_map(rows, size, prime)
     squares = led_all(rows, [flat(square) for square in splits], prime)
     numbers = kernel([flat(led_all(folded(square, size), beyond, prime)) for square in squares], prime)
     return list(led_all(numbers, rows, prime))

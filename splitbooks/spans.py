@@ -1,15 +1,10 @@
 """Spans: sums of multiples of some things, told by tidy lists; what has to come to them to be closed."""
 
 from splitbooks.joiners import Joiner
-from splitbooks.linear import across, flat, is_sum_of, led_all, plain, rest_beyond
+from splitbooks.linear import across, beyond_map, flat, is_sum_of, led_all, plain
 from splitbooks.packs import Fields, total
 from splitbooks.stairs import Stairs
 from splitbooks.tables import all_joined, row_split
-
-
-def beyond_map(prime, tidy, size):
-    """The map that leads each thing to what is left of it beyond a tidy list: 0 just for its sums."""
-    return [rest_beyond(thing, tidy, prime) for thing in plain(size)]
 
 
 def span_fault(book, tidy, sides):
@@ -17,7 +12,7 @@ def span_fault(book, tidy, sides):
     prime = book.prime
     if not is_sum_of(book.one, tidy, prime):
         return ("one",)
-    beyond = beyond_map(prime, tidy, book.size)
+    beyond = beyond_map(tidy, book.size, prime)
     for i, rows in enumerate(all_joined(prime, book.joins, tidy, tidy)):
         for j, row in enumerate(led_all(rows, beyond, prime)):
             if any(row):
