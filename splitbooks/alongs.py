@@ -1,6 +1,7 @@
 """Maps that go along with what things lead to; guests that things leave alone; parts of rooms, and what is left."""
 
 from splitbooks.errors import BadBasis, BadRow, TooMany
+from splitbooks.known import Known
 from splitbooks.linear import down_map, first_place, flat, folded, inverse, led_all, places_left, tidy_list
 from splitbooks.makers import makers_of
 from splitbooks.rooms import Room, need_room, need_two_rooms
@@ -115,13 +116,13 @@ def leads_within(room, rows):
     # By its numbers at these places each sum of multiples of the rows is told.
     undone = inverse([[row[place] for place in places] for row in rows], prime)
     squares = [led_all(rows, square, prime) for square in room.leads]
-    return [led_all([[row[place] for place in places] for row in led], undone, prime) for led in squares]
+    return tuple([led_all([[row[place] for place in places] for row in led], undone, prime) for led in squares])
 
 
 def inner_room(room, guests):
     """The room whose guests stand for those of an inner list."""
     need_room(room)
-    return Room(room.book, leads_within(room, inner_rows(room, guests)))
+    return Room(room.book, Known(leads_within(room, inner_rows(room, guests))))
 
 
 def left_over(room, guests):
@@ -134,4 +135,5 @@ def left_over(room, guests):
     tidy = tidy_list(rows, prime)
     places = places_left(tidy, room.size)
     down = down_map(tidy, room.size, prime)
-    return Room(room.book, [led_all([square[place] for place in places], down, prime) for square in room.leads])
+    leads = [led_all([square[place] for place in places], down, prime) for square in room.leads]
+    return Room(room.book, Known(tuple(leads)))

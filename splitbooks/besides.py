@@ -2,6 +2,7 @@
 
 from splitbooks.axes import cube_flat, cube_folded, moved, summed
 from splitbooks.errors import TooMany
+from splitbooks.known import Known
 from splitbooks.linear import across, flat, inverse
 from splitbooks.rooms import MOST_GUESTS, Room, need_room, need_two_rooms
 
@@ -31,7 +32,7 @@ def beside_rooms(one, other):
     """The room of guests of one beside guests of other."""
     need_two_rooms(one, other)
     need_few_guests(one.size * other.size)
-    return Room(one.book, leads_beside(one.book, one.leads, other.leads))
+    return Room(one.book, Known(leads_beside(one.book, one.leads, other.leads)))
 
 
 def rooms_together(one, other):
@@ -40,16 +41,16 @@ def rooms_together(one, other):
     need_few_guests(one.size + other.size)
     before = (0,) * one.size
     behind = (0,) * other.size
-    leads = [[row + behind for row in square] + [before + row for row in line]
+    leads = [tuple([row + behind for row in square] + [before + row for row in line])
              for square, line in zip(one.leads, other.leads)]
-    return Room(one.book, leads)
+    return Room(one.book, Known(tuple(leads)))
 
 
 def _turned_by(room, back):
     """The room of the rows: x leads f to the row that tells of v what f tells of what the back of x leads v to."""
     flats = flat([flat(across(square)) for square in room.leads])
     led = summed(flat(back), flats, room.book.size, room.book.prime)
-    return Room(room.book, cube_folded(led, room.size, room.size))
+    return Room(room.book, Known(cube_folded(led, room.size, room.size)))
 
 
 def turned_room(room):

@@ -8,6 +8,7 @@ from splitbooks.axes import cube_flat, moved, summed
 from splitbooks.checks import need_book
 from splitbooks.errors import BadRoom, BadShape
 from splitbooks.falls import fault_of_falls, falls_taken
+from splitbooks.known import Known
 from splitbooks.linear import across, flat
 from splitbooks.makers import makers_of
 from splitbooks.rooms import leads_fault, leads_taken
@@ -15,7 +16,6 @@ from splitbooks.rooms import leads_fault, leads_taken
 
 def both_taken(book, leads, falls):
     """The leads and the falls modulo the prime, refused if one of them is wrong by itself."""
-    need_book(book)
     leads = leads_taken(book, leads)
     falls = falls_taken(book, falls)
     if len(falls) != len(leads[0]):
@@ -94,3 +94,19 @@ class BothTables:
             if place is not None:
                 return ("cross", x, place)
         return None
+
+
+def right_both(book, leads, falls, crosswise):
+    """The leads and the falls modulo the prime, refused if they are wrong by themselves or not right together.
+
+    Crosswise or not, this tells how they have to be together.
+    """
+    need_book(book)
+    if isinstance(leads, Known) and isinstance(falls, Known):
+        return leads.table, falls.table
+    leads, falls = both_taken(book, leads, falls)
+    tables = BothTables(book, leads, falls)
+    fault = tables.cross_fault() if crosswise else tables.both_fault()
+    if fault is not None:
+        raise BadRoom(fault)
+    return leads, falls

@@ -2,24 +2,22 @@
 
 from splitbooks.axes import cube_flat, cube_folded, moved, summed
 from splitbooks.besides import leads_beside, need_few_guests
-from splitbooks.bothfaults import BothTables, both_taken
+from splitbooks.bothfaults import right_both
 from splitbooks.checks import need_book
 from splitbooks.errors import BadNumber, BadRoom, BadRow
 from splitbooks.falls import right_falls
+from splitbooks.known import Known
 from splitbooks.linear import combined, flat, folded, inverse, led_all
 from splitbooks.rooms import need_room
 from splitbooks.stairs import kernel
-from splitbooks.values import is_number, is_row, row_of
+from splitbooks.values import cube_of, is_number, is_row, row_of
 
 
 class BothRoom:
     """A room of guests that fall, what things lead them to falling half by half."""
 
     def __init__(self, book, leads, falls):
-        leads, falls = both_taken(book, leads, falls)
-        fault = BothTables(book, leads, falls).both_fault()
-        if fault is not None:
-            raise BadRoom(fault)
+        leads, falls = right_both(book, leads, falls, False)
         self.book = book
         self.size = len(falls)
         self.leads = leads
@@ -62,6 +60,18 @@ def told_by_kept(both, guest):
     return folded(combined(row_of(guest, prime), inverse(rows, prime), prime), len(kept))
 
 
+def known_both(book, leads, falls):
+    """The BothRoom of leads and falls that are known to be right."""
+    return BothRoom(book, Known(cube_of(leads, book.prime)), Known(cube_of(falls, book.prime)))
+
+
+def leads_in_lots(book, many):
+    """The leads of so many lots of things: thing k of a lot stands at k * many and the number of the lot."""
+    lots = range(many)
+    return [[flat([[number if at == lot else 0 for at in lots] for number in row]) for row in square for lot in lots]
+            for square in book.joins]
+
+
 def free_both(book, many):
     """The room of so many lots of the things of a book, each led and falling in its own lot."""
     need_book(book)
@@ -69,12 +79,9 @@ def free_both(book, many):
         raise BadNumber("many")
     need_few_guests(book.size * many)
     nothing = (0,) * book.size
-    places = range(many)
-    leads = [[flat([[number if at == lot else 0 for at in places] for number in row])
-              for row in square for lot in places] for square in book.joins]
-    falls = [[row if lot == at else nothing for row in square for at in places]
-             for square in book.splits for lot in places]
-    return BothRoom(book, leads, falls)
+    lots = range(many)
+    falls = [[row if at == lot else nothing for row in square for at in lots] for square in book.splits for lot in lots]
+    return known_both(book, leads_in_lots(book, many), falls)
 
 
 def room_both(room):
@@ -85,7 +92,7 @@ def room_both(room):
     nothing = ((0,) * book.size,) * book.size
     falls = [flat([square if v == w else nothing for w in range(room.size)])
              for v in range(room.size) for square in book.splits]
-    return BothRoom(book, leads_beside(book, room.leads, book.joins), falls)
+    return known_both(book, leads_beside(book, room.leads, book.joins), falls)
 
 
 def falls_both(book, falls):
@@ -95,15 +102,13 @@ def falls_both(book, falls):
     prime = book.prime
     many = book.size
     size = len(falls)
-    leads = [[flat([[number if i == j else 0 for j in range(size)] for number in row])
-              for row in square for i in range(size)] for square in book.joins]
     # At y, a, k, t: the second half that stands beside a, joined to k.
     halves = summed(cube_flat(book.splits), cube_flat(book.joins), many, prime)
     halves = moved(halves, [many] * 4, [2, 0, 1, 3])
     # At i, j, y, a, t, and then at y, i, a, j, t.
     fallen = summed(cube_flat(falls), halves, many, prime)
     fallen = moved(fallen, [size, size, many, many, many], [2, 0, 3, 1, 4])
-    return BothRoom(book, leads, cube_folded(fallen, many * size, many))
+    return known_both(book, leads_in_lots(book, size), cube_folded(fallen, many * size, many))
 
 
 def rows_both(book):
@@ -116,4 +121,4 @@ def rows_both(book):
     told = summed(flat(undone), cube_flat(book.joins), many, prime)
     leads = cube_folded(moved(told, [many] * 3, [0, 2, 1]), many, many)
     falls = cube_folded(moved(cube_flat(book.splits), [many] * 3, [2, 0, 1]), many, many)
-    return BothRoom(book, leads, falls)
+    return known_both(book, leads, falls)

@@ -2,11 +2,12 @@
 
 from splitbooks.axes import cube_flat, cube_folded, moved, summed
 from splitbooks.besides import leads_beside, need_few_guests
-from splitbooks.bothfaults import BothTables, both_taken
+from splitbooks.bothfaults import right_both
 from splitbooks.checks import need_book
 from splitbooks.crossings import crossing_of
 from splitbooks.doubles import double, double_tables, from_rows, from_things, need_few_pairs
 from splitbooks.errors import BadRoom, BadShape
+from splitbooks.known import Known
 from splitbooks.linear import flat, folded, inverse
 from splitbooks.rooms import Room, need_room
 from splitbooks.turning import turning_back_leads, turning_leads
@@ -16,10 +17,7 @@ class CrossRoom:
     """A room of guests that fall: leading the guests of a fall and falling once led are alike, crosswise."""
 
     def __init__(self, book, leads, falls):
-        leads, falls = both_taken(book, leads, falls)
-        fault = BothTables(book, leads, falls).cross_fault()
-        if fault is not None:
-            raise BadRoom(fault)
+        leads, falls = right_both(book, leads, falls, True)
         self.book = book
         self.size = len(falls)
         self.leads = leads
@@ -44,19 +42,24 @@ def need_two_crosses(one, other):
         raise BadShape("book")
 
 
+def known_cross(book, leads, falls):
+    """The CrossRoom of leads and falls, as tuples modulo the prime, that are known to be right."""
+    return CrossRoom(book, Known(leads), Known(falls))
+
+
 def turning_cross(book):
     """The things that are turned about, falling into second halves paired with the back undone of first ones."""
     need_book(book)
     size = book.size
     halves = moved(cube_flat(book.splits), [size] * 3, [0, 2, 1])
     falls = summed(halves, flat(inverse(book.back, book.prime)), size, book.prime)
-    return CrossRoom(book, turning_leads(book), cube_folded(falls, size, size))
+    return known_cross(book, turning_leads(book), cube_folded(falls, size, size))
 
 
 def turning_back_cross(book):
     """The things that are turned about the other way, falling into first halves paired with second ones."""
     need_book(book)
-    return CrossRoom(book, turning_back_leads(book), book.splits)
+    return known_cross(book, turning_back_leads(book), book.splits)
 
 
 def crossing_cross(room, square):
@@ -67,7 +70,7 @@ def crossing_cross(room, square):
     size = room.size
     falls = summed(flat(square), cube_flat(room.leads), many, room.book.prime)
     falls = moved(falls, [many, size, size], [1, 2, 0])
-    return CrossRoom(room.book, room.leads, cube_folded(falls, size, many))
+    return known_cross(room.book, room.leads, cube_folded(falls, size, many))
 
 
 def beside_cross(one, other):
@@ -84,7 +87,7 @@ def beside_cross(one, other):
     first = moved(first, [wide, wide, many, many], [2, 0, 1, 3])
     falls = summed(cube_flat(other.falls), first, many, book.prime)
     falls = moved(falls, [high, high, wide, wide, many], [2, 0, 3, 1, 4])
-    return CrossRoom(book, leads_beside(book, one.leads, other.leads), cube_folded(falls, wide * high, many))
+    return known_cross(book, leads_beside(book, one.leads, other.leads), cube_folded(falls, wide * high, many))
 
 
 def room_exchange(one, other):
@@ -106,7 +109,7 @@ def double_room(cross):
     # At k, v, w, i: thing k leads v to guests that fall into w paired with thing i.
     led = summed(cube_flat(cross.leads), cube_flat(cross.falls), size, cross.book.prime)
     led = moved(led, [many, size, size, many], [3, 0, 1, 2])
-    return Room(double(cross.book), cube_folded(led, size, size))
+    return Room(double(cross.book), Known(cube_folded(led, size, size)))
 
 
 def cross_of(book, room):
@@ -122,4 +125,4 @@ def cross_of(book, room):
     leads = summed(flat(from_things(book)), led, whole.size, book.prime)
     falls = summed(flat(from_rows(book)), led, whole.size, book.prime)
     falls = moved(falls, [book.size, size, size], [1, 2, 0])
-    return CrossRoom(book, cube_folded(leads, size, size), cube_folded(falls, size, book.size))
+    return known_cross(book, cube_folded(leads, size, size), cube_folded(falls, size, book.size))

@@ -5,9 +5,10 @@ from splitbooks.checks import need_book
 from splitbooks.errors import BadDoing, BadNumber, BadRow, BadShape, BadTable, TooMany
 from splitbooks.faults import one_fault
 from splitbooks.grouping import Grouping
+from splitbooks.known import Known
 from splitbooks.leadfaults import joined_fault, unmoved_fault
 from splitbooks.linear import across, combined, flat, led_all, plain
-from splitbooks.makers import makers_of
+from splitbooks.makers import makers_of, making_rows
 from splitbooks.swallowed import multiplied_by
 from splitbooks.turning import turning_leads
 from splitbooks.values import (
@@ -39,14 +40,22 @@ def table_fault(prime, joins, one):
     return _first_fault(prime, joins, one)
 
 
+def _right_table(prime, joins, one):
+    """Joins and one modulo the prime; the errors of table_fault, or BadTable with what it tells."""
+    if isinstance(joins, Known) and isinstance(one, Known):
+        return joins.table, one.table
+    joins, one = _table_taken(prime, joins, one)
+    fault = _first_fault(prime, joins, one)
+    if fault is not None:
+        raise BadTable(fault)
+    return joins, one
+
+
 class ProductTable:
     """Things that are joined, and a one."""
 
     def __init__(self, prime, joins, one):
-        joins, one = _table_taken(prime, joins, one)
-        fault = _first_fault(prime, joins, one)
-        if fault is not None:
-            raise BadTable(fault)
+        joins, one = _right_table(prime, joins, one)
         self.prime = prime
         self.size = len(joins)
         self.joins = joins
@@ -80,7 +89,7 @@ def need_few_in_table(many):
 def book_table(book):
     """The product table of the joins and the one of a splitbook."""
     need_book(book)
-    return ProductTable(book.prime, book.joins, book.one)
+    return ProductTable(book.prime, Known(book.joins), Known(book.one))
 
 
 def full_table(table, wide):
@@ -100,7 +109,7 @@ def full_table(table, wide):
             rows.append([number if (r, s) == (i, m) else 0 for number in row for r in places for s in places])
         joins.append(rows)
     one = [number if r == s else 0 for number in table.one for r in places for s in places]
-    return ProductTable(table.prime, joins, one)
+    return ProductTable(table.prime, Known(cube_of(joins, table.prime)), Known(tuple(one)))
 
 
 def is_table_leading(one, other, thing):
@@ -116,10 +125,10 @@ def is_table_leading(one, other, thing):
     if combined(one.one, rows, prime) != other.one:
         return False
     flats = [flat(square) for square in other.joins]
-    # What it does with two things that are joined to all others, it does with what they are joined to.
-    for a in makers_of(prime, one.joins):
-        led = summed(flat(rows), combined(rows[a], flats, prime), other.size, prime)
-        if flat(led_all(one.joins[a], rows, prime)) != led:
+    # What is right for two things, ahead of all others, is right for what they are joined to.
+    for a, ahead in making_rows(prime, one.joins):
+        led = summed(flat(rows), combined(combined(a, rows, prime), flats, prime), other.size, prime)
+        if flat(led_all(ahead, rows, prime)) != led:
             return False
     return True
 
@@ -132,10 +141,11 @@ def _counts_fault(book, table, doing):
     return None
 
 
-def _leads_halves(book, table, doing):
+def _leads_halves(book, table, doing, pairs):
     """Whether all things of the book lead a joined to b as the halves of their splits lead both, for all a, b.
 
-    What is right for two things of the table, put ahead of all others, is right for what they are joined to.
+    What is right for two things a of the table is right for what they are joined to: so the making_rows, pairs,
+    will do.
     """
     prime = book.prime
     many = book.size
@@ -145,17 +155,17 @@ def _leads_halves(book, table, doing):
     halves = moved(cube_flat(book.splits), [many] * 3, [0, 2, 1])
     # At b, q, b': q leads b to b'. At m, i, c: i leads m to c.
     last = moved(numbers, [many, size, size], [1, 0, 2])
-    for a in makers_of(prime, table.joins):
+    for a, ahead in pairs:
         # At i, q, b', c: what the first half of i that stands beside q leads a to, joined to b'.
-        led = summed(flat([square[a] for square in doing]), joins, size, prime)
+        led = summed(flat([combined(a, square, prime) for square in doing]), joins, size, prime)
         led = moved(summed(halves, led, many, prime), [many, many, size, size], [1, 2, 0, 3])
-        if summed(last, led, many * size, prime) != summed(flat(table.joins[a]), last, size, prime):
+        if summed(last, led, many * size, prime) != summed(flat(ahead), last, size, prime):
             return False
     return True
 
 
 def _both_fault(book, table, doing):
-    """The least i, a, b for which i does not lead a joined to b as the halves of its split lead both; there is one."""
+    """The least i, a, b for which i does not lead a joined to b as the halves of its split lead both, or None."""
     prime = book.prime
     many = book.size
     size = table.size
@@ -186,9 +196,13 @@ def _fault_of_doing(book, table, doing):
     place = _counts_fault(book, table, doing)
     if place is not None:
         return ("counts", place)
-    if _leads_halves(book, table, doing):
+    # It is quicker to look at few things of the table, unless it takes many of them to make all others.
+    pairs = making_rows(book.prime, table.joins)
+    few = len(pairs) * book.size <= len(makers_of(book.prime, book.joins)) * table.size
+    if few and _leads_halves(book, table, doing, pairs):
         return None
-    return ("both",) + _both_fault(book, table, doing)
+    places = _both_fault(book, table, doing)
+    return None if places is None else ("both",) + places
 
 
 def _is_doing_shape(book, table, value):

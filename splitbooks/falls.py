@@ -4,6 +4,7 @@ from splitbooks.axes import cube_flat, moved, summed
 from splitbooks.bases import other_way
 from splitbooks.checks import need_book
 from splitbooks.errors import BadRoom, BadShape
+from splitbooks.known import Known
 from splitbooks.leadfaults import joined_fault, unmoved_fault
 from splitbooks.linear import across, flat
 from splitbooks.rooms import MOST_GUESTS, Room, need_room
@@ -81,4 +82,4 @@ def right_falls(book, falls):
 def leads_of(book, falls):
     """The room of the other way of a book that its falls make."""
     leads = leads_told(right_falls(book, falls))
-    return Room(other_way(book), leads)
+    return Room(other_way(book), Known(leads))

@@ -2,6 +2,7 @@
 
 from splitbooks.checks import need_book
 from splitbooks.errors import BadRoom, BadRow, BadShape
+from splitbooks.known import Known
 from splitbooks.leadfaults import joined_fault, unmoved_fault
 from splitbooks.linear import combined
 from splitbooks.values import cube_of, is_listing, is_number_within, is_row, is_square, row_of
@@ -34,15 +35,23 @@ def room_fault(book, leads):
     return leads_fault(book, leads_taken(book, leads))
 
 
+def right_leads(book, leads):
+    """The leads modulo the prime; the errors of room_fault, or BadRoom with what it tells."""
+    if isinstance(leads, Known):
+        return leads.table
+    leads = leads_taken(book, leads)
+    fault = leads_fault(book, leads)
+    if fault is not None:
+        raise BadRoom(fault)
+    return leads
+
+
 class Room:
     """Guests, and for each thing of a splitbook the square of what it leads them to."""
 
     def __init__(self, book, leads):
         need_book(book)
-        leads = leads_taken(book, leads)
-        fault = leads_fault(book, leads)
-        if fault is not None:
-            raise BadRoom(fault)
+        leads = right_leads(book, leads)
         self.book = book
         self.size = len(leads[0])
         self.leads = leads
@@ -81,10 +90,10 @@ def led_guest(room, thing, guest):
 def own_room(book):
     """The room of the things of a splitbook: x leads y to x joined to y."""
     need_book(book)
-    return Room(book, book.joins)
+    return Room(book, Known(book.joins))
 
 
 def count_room(book):
     """The room of one guest, multiplied by the counts."""
     need_book(book)
-    return Room(book, [[[count]] for count in book.counts])
+    return Room(book, Known(tuple([((count,),) for count in book.counts])))

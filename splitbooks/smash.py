@@ -3,6 +3,7 @@
 from splitbooks.axes import cube_flat, cube_folded, moved, summed
 from splitbooks.bases import other_way
 from splitbooks.doingtables import ProductTable, doing_of, need_few_in_table
+from splitbooks.known import Known
 from splitbooks.linear import flat, plain
 from splitbooks.tables import rows_paired
 
@@ -24,7 +25,7 @@ def _smash_of(book, table, doing):
     led = summed(led, cube_flat(book.joins), many, prime)
     led = moved(led, [many, size, size, size, many, many], [1, 0, 2, 4, 3, 5])
     cube = cube_folded(led, many * size, many * size)
-    return ProductTable(prime, cube, flat(rows_paired(prime, table.one, book.one)))
+    return ProductTable(prime, Known(cube), Known(flat(rows_paired(prime, table.one, book.one))))
 
 
 def smash(book, table, doing):

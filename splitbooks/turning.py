@@ -2,6 +2,7 @@
 
 from splitbooks.axes import cube_flat, cube_folded, moved, summed
 from splitbooks.checks import need_book
+from splitbooks.known import Known
 from splitbooks.linear import flat, inverse
 from splitbooks.rooms import Room
 
@@ -30,10 +31,10 @@ def turning_back_leads(book):
 def turning_room(book):
     """The room of the things that each thing turns about, its first half ahead, the back of its second half behind."""
     need_book(book)
-    return Room(book, turning_leads(book))
+    return Room(book, Known(turning_leads(book)))
 
 
 def turning_back_room(book):
     """The room of the things that each thing turns about, its second half ahead, the first one's back undone behind."""
     need_book(book)
-    return Room(book, turning_back_leads(book))
+    return Room(book, Known(turning_back_leads(book)))
