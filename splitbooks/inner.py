@@ -107,7 +107,7 @@ def things_up_to_one(book):
         if place != begun:
             tails = [(0,) * place + (1,)]
             for at in range(place + 1, book.size):
-                numbers = (0,) if at == begun else range(prime)
+                numbers = [0] if at == begun else list(range(prime))
                 tails = [tail + (number,) for tail in tails for number in numbers]
             rows.extend(tails)
     return rows

@@ -58,7 +58,9 @@ STATEMENTS = (
     ast.FunctionDef, ast.ClassDef, ast.Import, ast.ImportFrom)
 COMPREHENSIONS = (ast.ListComp, ast.SetComp, ast.DictComp, ast.GeneratorExp)
 TAKES_GENERATOR = {"list", "tuple", "dict", "sorted", "sum", "min", "max", "any", "all", "join"}
-ITERATES = TAKES_GENERATOR | {"enumerate", "zip", "bytes", "len", "reversed"}
+ITERATES = TAKES_GENERATOR | {"enumerate", "zip", "bytes"}
+TAKES_WALKER = {"product", "combinations", "permutations"}
+KEPT_ONCE = {"list", "tuple", "sorted", "sum", "min", "max", "any", "all"}
 
 
 class Source:
@@ -346,8 +348,6 @@ def call_faults(source, sources):
                 told.append(source.told("L25", node, f"the method {node.func.attr}"))
         if isinstance(node.func, ast.Name):
             word = node.func.id
-            if word in {"zip", "enumerate", "reversed"} and not is_iterated(source, node):
-                told.append(source.told("L23", node, f"{word} is not iterated at once"))
             allowed = {"sorted": {"key", "reverse"}, "min": {"key", "default"}, "max": {"key", "default"},
                        "sum": {"start"}, "enumerate": {"start"}, "zip": {"strict"}}
             if word in ALL_BUILTINS and {part.arg for part in node.keywords} - allowed.get(word, set()):
@@ -370,14 +370,75 @@ def attribute_names(sources):
     return {name for source in sources for name in source.stored}
 
 
-def is_iterated(source, node):
-    """Whether a call of zip and the like stands where it is iterated, or is kept in a variable of a function."""
+def walker_of(node):
+    """The word of a call that gives a range, a zip, a view of a dict or the like; "" for any other node."""
+    if isinstance(node, ast.Call) and isinstance(node.func, ast.Name):
+        return node.func.id if node.func.id in {"range", "zip", "enumerate", "reversed"} else ""
+    if isinstance(node, ast.Call) and isinstance(node.func, ast.Attribute) and not node.args:
+        return node.func.attr if node.func.attr in {"items", "keys", "values"} else ""
+    return ""
+
+
+def is_iterated(source, node, word, kept):
+    """Whether what gives a range and the like, or (kept) the variable that keeps it, stands where it is iterated."""
     parent = source.parent[node]
     if isinstance(parent, (ast.For, ast.comprehension)):
         return parent.iter is node
-    if isinstance(parent, ast.Call) and isinstance(parent.func, ast.Name):
-        return parent.func.id in ITERATES
-    return isinstance(parent, ast.Assign) and source.in_function(node)
+    if isinstance(parent, ast.Compare):
+        return word in {"range", "keys"} and isinstance(parent.ops[0], (ast.In, ast.NotIn)) and parent.left is not node
+    if isinstance(parent, ast.Subscript):
+        return kept and word == "range" and parent.value is node
+    if not isinstance(parent, ast.Call) or node not in parent.args:
+        return False
+    if isinstance(parent.func, ast.Attribute):
+        return not kept and parent.func.attr == "join" and isinstance(parent.func.value, ast.Constant)
+    called = parent.func.id if isinstance(parent.func, ast.Name) else ""
+    if word == "range" and called in {"len", "reversed", "enumerate", "zip"}:
+        return True
+    if called in {"min", "max"} and len(parent.args) > 1:
+        return False
+    if word in {"items", "keys", "values"} and called == "len":
+        return True
+    return called in (KEPT_ONCE if kept else ITERATES | TAKES_WALKER)
+
+
+def function_around(source, node):
+    """The function, or lambda, in which a node stands; None at module level."""
+    while node in source.parent:
+        node = source.parent[node]
+        if isinstance(node, (ast.FunctionDef, ast.Lambda)):
+            return node
+    return None
+
+
+def is_kept_fairly(source, node, word):
+    """Whether a plain local variable, assigned just once, keeps a range and the like, and is only iterated."""
+    parent = source.parent[node]
+    around = function_around(source, node)
+    if not isinstance(parent, ast.Assign) or around is None:
+        return False
+    if len(parent.targets) != 1 or not isinstance(parent.targets[0], ast.Name):
+        return False
+    name = parent.targets[0].id
+    if name in {part.arg for part in ast.walk(around.args) if isinstance(part, ast.arg)}:
+        return False
+    found = [part for part in ast.walk(around) if isinstance(part, ast.Name) and part.id == name]
+    if sum(not isinstance(part.ctx, ast.Load) for part in found) != 1:
+        return False
+    reads = [part for part in found if isinstance(part.ctx, ast.Load)]
+    if word in {"zip", "enumerate", "reversed"} and len(reads) > 1:
+        return False
+    return all(function_around(source, part) is around and is_iterated(source, part, word, True) for part in reads)
+
+
+def walker_faults(source):
+    """L23: ranges, zips, views of dicts and the like are iterated on the spot, or kept as the rule lets it."""
+    told = []
+    for node in source.nodes(ast.Call):
+        word = walker_of(node)
+        if word and not is_iterated(source, node, word, False) and not is_kept_fairly(source, node, word):
+            told.append(source.told("L23", node, f"{word} is neither iterated on the spot nor fairly kept"))
+    return told
 
 
 def name_faults(source):
@@ -504,6 +565,7 @@ def source_faults(source, sources):
     """All that the rules have against one file."""
     return (sign_faults(source) + import_faults(source, sources) + level_faults(source)
             + class_faults(source, sources) + statement_faults(source) + call_faults(source, sources)
+            + walker_faults(source)
             + name_faults(source) + own_name_faults(source) + target_faults(source))
 
 
