@@ -3,18 +3,12 @@
 from itertools import permutations
 
 from splitbooks.books import MOST_THINGS, Splitbook
-from splitbooks.errors import BadCrossed, BadGroup, BadShape, TooMany
-from splitbooks.groups import is_group
+from splitbooks.errors import BadCrossed, BadShape, TooMany
+from splitbooks.groups import need_group, undone_things
 from splitbooks.linear import across
 from splitbooks.values import is_listing, is_number_within, need_prime
 
 MOST_PAIRED = 4
-
-
-def need_group(table):
-    """BadGroup unless a table of a group is given."""
-    if not is_group(table):
-        raise BadGroup("the table is not that of a group of 1 to 16 things with unit 0")
 
 
 def _is_table(value, many, wide, most):
@@ -172,16 +166,11 @@ def crossed_pairs(one, other):
     return sorted(found)
 
 
-def _bars(table):
-    """For each thing of a group, what undoes it."""
-    return [list(row).index(0) for row in table]
-
-
 def crossed_swapped(one, other, moves, turns):
     """The moves and turns of the crossed pair of other and one."""
     need_pair(one, other, moves, turns)
-    bars = _bars(one)
-    undone = _bars(other)
+    bars = undone_things(one)
+    undone = undone_things(other)
     swapped = tuple([tuple([undone[turns[s][x]] for s in undone]) for x in bars])
     turned = tuple([tuple([bars[moves[s][x]] for s in undone]) for x in bars])
     return swapped, turned

@@ -1,8 +1,8 @@
 """Families of splitbooks: of groups, of a factor g and a factor x that shifts, and of one that slips."""
 
 from splitbooks.books import Splitbook
-from splitbooks.errors import BadGroup, BadNumber
-from splitbooks.groups import is_group
+from splitbooks.errors import BadNumber
+from splitbooks.groups import need_group
 from splitbooks.grown import grown_book, pair_square, sum_of_squares
 from splitbooks.linear import unit
 from splitbooks.powers import power
@@ -14,8 +14,7 @@ MOST_SLIP = 3
 def group_book(prime, table):
     """The splitbook whose things are those of a group, each one split into itself twice."""
     need_prime(prime)
-    if not is_group(table):
-        raise BadGroup("the table is not that of a group of 1 to 16 things with unit 0")
+    need_group(table)
     size = len(table)
     joins = [[unit(size, place) for place in row] for row in table]
     splits = [pair_square(size, thing, thing) for thing in range(size)]

@@ -1,5 +1,6 @@
 """Tables of groups: lists of rows of numbers, with at i, j the thing to which things i and j are joined."""
 
+from splitbooks.errors import BadGroup
 from splitbooks.values import is_listing, is_number_within
 
 MOST_GROUP = 16
@@ -29,3 +30,14 @@ def is_group(value):
         return False
     rows = [list(row) for row in value]
     return all([rows[row[j]] == [row[at] for at in rows[j]] for row in rows for j in things])
+
+
+def need_group(table):
+    """BadGroup unless a table of a group is given."""
+    if not is_group(table):
+        raise BadGroup("the table is not that of a group of 1 to 16 things with unit 0")
+
+
+def undone_things(table):
+    """The list of what undoes each thing of a group."""
+    return [list(row).index(0) for row in table]

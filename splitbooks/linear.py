@@ -77,6 +77,11 @@ def halves_led(square, firsts, seconds, prime):
     return led_all(across(firsts), led_all(square, seconds, prime), prime)
 
 
+def trace_of(prime, rows):
+    """The sum of the numbers that each place has in its own row."""
+    return sum([row[at] for at, row in enumerate(rows)]) % prime
+
+
 def first_place(row):
     """The place of the first number of a row that is not 0; None for a row of 0."""
     for place, number in enumerate(row):

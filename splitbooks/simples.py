@@ -5,7 +5,7 @@ from splitbooks.fading import lot_of
 from splitbooks.forms import passing_square, row_form, swallowing_row
 from splitbooks.idempotents import at_places, central_rows, least_parts
 from splitbooks.joiners import Joiner
-from splitbooks.linear import across, combined, cube_led, first_place, flat, led_all
+from splitbooks.linear import across, combined, cube_led, first_place, flat, led_all, trace_of
 from splitbooks.powers import number_undone
 from splitbooks.stairs import solved
 from splitbooks.swallowed import multiplied_by, swallowed_left
@@ -64,8 +64,7 @@ def left_keeper(book, things):
 def map_trace(book, rows):
     """The sum of rows[k][k] for all k, modulo the prime."""
     need_book(book)
-    rows = map_of(book, book, rows)
-    return sum([row[at] for at, row in enumerate(rows)]) % book.prime
+    return trace_of(book.prime, map_of(book, book, rows))
 
 
 def trace_by_halves(book, rows):

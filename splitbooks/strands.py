@@ -38,9 +38,13 @@ def thing_undone(book, thing):
     return row_undone(book.prime, book.joins, book.one, thing_of(book, thing))
 
 
+def leader_of(book, square):
+    """The crossing_thing of a crossing that is taken."""
+    pairs = led_all(across(book.back), across(square), book.prime)
+    return halves_met(book.prime, book.joins, pairs)
+
+
 def crossing_thing(book, square):
     """The sum, over the pairs (a, b) of a crossing, of the back of b joined to a."""
     need_book(book)
-    square = crossing_of(book, square)
-    pairs = led_all(across(book.back), across(square), book.prime)
-    return halves_met(book.prime, book.joins, pairs)
+    return leader_of(book, crossing_of(book, square))

@@ -51,6 +51,29 @@ class Case(unittest.TestCase):
             self.refused(errors.BadShape, "book", function, *rooms, *others)
             self.refused(errors.BadShape, "book", function, *rooms[::-1], *[None] * len(others))
 
+    def refuses_doings(self, function, *others):
+        """function refuses what is no Splitbook, no ProductTable, of other primes or no doing, in this sequence."""
+        from splitbooks.doingtables import ProductTable
+        from splitbooks.families import group_book
+        book = group_book(3, [[0, 1], [1, 0]])
+        tables = {prime: ProductTable(prime, [[[1, 0], [0, 0]], [[0, 0], [0, 1]]], [1, 1]) for prime in (3, 5)}
+        nothing = [None] * len(others)
+        for value in STRANGE + [tables[3], [book]]:
+            self.refused(errors.BadBook, None, function, value, None, None, *nothing)
+            self.refused(errors.BadBook, None, function, value, tables[3], [[[1, 0], [0, 1]]] * 2, *others)
+        for value in STRANGE + [book, [tables[3]], tables[3].joins]:
+            self.refused(errors.BadTable, None, function, book, value, None, *nothing)
+            self.refused(errors.BadTable, None, function, book, value, [[[1, 0], [0, 1]]] * 2, *others)
+        self.refused(errors.BadShape, "prime", function, book, tables[5], None, *nothing)
+        self.refused(errors.BadShape, "prime", function, book, tables[5], [[[1, 0], [0, 1]]] * 2, *others)
+        for value in STRANGE + [[], [[[1, 0], [0, 1]]], [[[1, 0], [0, 1]]] * 3, [[[1]]] * 2]:
+            self.refused(errors.BadDoing, ("shape",), function, book, tables[3], value, *nothing)
+        wrong = {("one", 0): [[[0, 1], [1, 0]], [[0, 1], [1, 0]]], ("joins", 1, 1, 0): [[[1, 0], [0, 1]], [[1, 1], [0, 1]]],
+                 ("counts", 1): [[[1, 0], [0, 1]], [[0, 2], [2, 0]]], ("both", 1, 0, 0): [[[1, 0], [0, 1]], [[2, 0], [2, 1]]]}
+        for part, doing in wrong.items():
+            self.refused(errors.BadDoing, part, function, book, tables[3], doing, *nothing)
+            self.refused(errors.BadDoing, part, function, book, tables[3], doing, *others)
+
     def unchanged(self, function, *args):
         """What function returns; the lists among args are the same afterwards."""
         before = copy.deepcopy(args)

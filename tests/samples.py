@@ -52,6 +52,11 @@ def beside_groups(one, other):
     return [[one[i // n][j // n] * n + other[i % n][j % n] for j in range(len(one) * n)] for i in range(len(one) * n)]
 
 
+# Values that are no tables of groups of 1 to 16 things with unit 0.
+WRONG_GROUPS = [[], [[]], [[1]], [[0, 1], [1, 1]], [[0, 1], [0, 1]], [[1, 0], [0, 1]], [[0, 1], [1, 2]], [[0, 1], [1, -1]],
+                [[0, 1]], [[0, 1], [1]], [[0, 1], [1, False]], [[0, True], [1, 0]], [[0, 1.0], [1, 0]], cyclic(17),
+                [[0, 1, 2], [1, 2, 0], [2, 1, 0]], {0: [0]}, "0",
+                [[0, 1, 2, 3, 4], [1, 0, 3, 4, 2], [2, 4, 0, 1, 3], [3, 2, 4, 0, 1], [4, 3, 1, 2, 0]]]
 FOUR = beside_groups(cyclic(2), cyclic(2))
 SIX = of_orders([(1, 0, 2), (0, 2, 1)])
 EIGHT = of_orders([(1, 2, 3, 0), (3, 2, 1, 0)])
