@@ -89,6 +89,30 @@ INTERFACE = {
     "smash": {
         "smash": "book table doing", "table_in_smash": "book table doing", "book_in_smash": "book table doing",
         "smash_doing": "book table doing", "twice_smashed": "book table doing"},
+    "full": {"unfolding": "book table doing"},
+    "wide": {
+        "pair_rows": "book table doing", "wide_rank": "book table doing", "is_wide": "book table doing",
+        "through_swallowed": "book table doing", "ways_through": "book table doing",
+        "smash_map": "book table doing thing", "kept_maps": "book table doing"},
+    "twists": {
+        "is_twist": "book thing", "twist_undone": "book square", "twisted": "book square", "twist_leader": "book square",
+        "led_twist": "book square thing", "twist_lead": "book one other", "twisted_crossing": "book square crossing"},
+    "twisttables": {
+        "twisted_table": "book table doing square", "twist_likeness": "book table doing square", "twists": "book",
+        "function_twists": "prime table"},
+    "braids": {
+        "is_braid": "strands thing", "braid_undone": "strands braid", "excess": "strands braid",
+        "places": "strands braid", "things_led": "table row braid", "orders_led": "orders braid"},
+    "freewords": {
+        "words_led": "strands braid", "are_alike_braids": "strands one other", "parting_orders": "strands one other",
+        "is_parting": "strands one other thing"},
+    "weaves": {"exchange": "one other square", "braid_map": "room square strands braid"},
+    "ribbons": {
+        "is_weigher": "book square thing", "weighers": "book square", "is_ribbon": "book square thing",
+        "ribbon_of": "book square weigher", "ribbons": "book square"},
+    "closings": {
+        "closing": "room square weigher strands braid", "twist": "room square weigher",
+        "kept_number": "room square weigher strands braid"},
     "numbers": {"kind_things": "book", "hull_numbers": "book", "beside_numbers": "book", "turned_kinds": "book"},
 }
 
@@ -144,7 +168,8 @@ class InterfaceTest(unittest.TestCase):
                   "room": own_room(book), "guest": (1, 2), "guests": [(1, 1)], "leads": own_room(book).leads,
                   "falls": book.splits, "both": free_both(book, 2), "many": 2, "cross": turning_cross(book), "side": 1,
                   "more": [(0, 1)], "moves": [[0, 1], [0, 1]], "turns": [[0, 0], [1, 1]], "doing": turning_doing(book),
-                  "wide": 2, "joins": [[[1]]]}
+                  "wide": 2, "joins": [[[1]]], "strands": 2, "braid": [1, 1], "orders": [(1, 0), (0, 1)],
+                  "weigher": (0, 1), "crossing": ((2, 2), (2, 1))}
         of_modules = {
             "besides": {"one": own_room(book), "other": own_room(book)},
             "alongs": {"one": own_room(book), "other": own_room(book)},
@@ -154,12 +179,20 @@ class InterfaceTest(unittest.TestCase):
             "crossed": {"one": [[0, 1], [1, 0]], "other": [[0, 1], [1, 0]], "table": [[0, 1], [1, 0]], "first": [0, 1],
                         "second": [0]},
             "doingtables": {"table": book_table(book), "one": book_table(book), "other": book_table(book)},
-            "smash": {"table": book_table(book)}}
+            "smash": {"table": book_table(book)}, "full": {"table": book_table(book)},
+            "wide": {"table": book_table(book), "thing": [0, 1, 2, 0]},
+            "twists": {"square": ((2, 2), (2, 1)), "one": ((1, 0), (0, 0)), "other": ((2, 2), (2, 1))},
+            "twisttables": {"table": book_table(book), "square": ((2, 2), (2, 1))},
+            "braids": {"table": [[0, 1], [1, 0]], "row": [0, 1]}, "freewords": {"one": [1], "other": [-1]},
+            "weaves": {"one": own_room(book), "other": own_room(book), "square": ((2, 2), (2, 1))},
+            "ribbons": {"square": ((2, 2), (2, 1))},
+            "closings": {"square": ((2, 2), (2, 1)), "room": count_room(book)}}
         special = {"convolved": {"first": book.back, "second": book.back}, "convolved_back": {"first": book.back},
                    "squares_joined": {"first": book.back, "second": book.back}, "betweens": {"second": (1, 0)},
                    "crossing_undone": {"square": ((1, 0), (0, 0))}, "crossing_thing": {"square": ((1, 0), (0, 0))},
                    "crossing_cross": {"square": ((1, 0), (0, 0))}, "table_fault": {"one": [1]},
-                   "cross_of": {"room": count_room(double(book))}, "told_by_kept": {"guest": (1, 0, 0, 2)},
+                   "cross_of": {"room": count_room(double(book))},
+                   "function_twists": {"table": [[0, 1], [1, 0]]}, "told_by_kept": {"guest": (1, 0, 0, 2)},
                    "what_is_wrong": {"joins": [[[1]]], "one": [1], "splits": [[[1]]], "counts": [1]}}
         for module, functions in INTERFACE.items():
             held = importlib.import_module("splitbooks." + module)
