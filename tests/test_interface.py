@@ -4,12 +4,15 @@ import importlib
 import inspect
 import unittest
 
-from splitbooks import books, bothrooms, crossrooms, doingtables, families, rooms
+from splitbooks import books, bothrooms, crossrooms, doingtables, families, pairrooms, rooms
 from splitbooks.bothrooms import free_both
 from splitbooks.crossrooms import turning_cross
 from splitbooks.doingtables import book_table, turning_doing
 from splitbooks.doubles import double
+from splitbooks.live import LiveBook
+from splitbooks.pairrooms import things_room
 from splitbooks.rooms import count_room, own_room
+from splitbooks.texts import book_text
 
 INTERFACE = {
     "books": {"what_is_wrong": "prime joins one splits counts"},
@@ -113,6 +116,19 @@ INTERFACE = {
     "closings": {
         "closing": "room square weigher strands braid", "twist": "room square weigher",
         "kept_number": "room square weigher strands braid"},
+    "surfaces": {"is_cut": "thing", "genus": "cut", "handle": "book", "glued_number": "book cut"},
+    "grouppairs": {
+        "keeper": "table thing", "pairs_past": "table", "pair_orbits": "table", "pair_led": "table pair letters",
+        "ways": "prime table thing"},
+    "pairrooms": {
+        "class_room": "prime table thing way", "things_room": "prime table", "pair_map": "room strands braid",
+        "pair_closing": "room strands braid", "pair_twist": "room", "pair_kept": "room strands braid", "as_room": "room"},
+    "fewbooks": {"few_books": "prime size", "few_place": "book", "few_likeness": "book", "few_alike": "one other"},
+    "fewcounts": {"self_likenesses": "book", "few_counts": "prime size"},
+    "live": {"started": "start", "is_deed": "thing"},
+    "texts": {"book_text": "book", "book_of_text": "text"},
+    "deedtexts": {"start_text": "start", "start_of_text": "text", "deed_text": "deed", "deed_of_text": "text"},
+    "journals": {"journal_text": "live", "led_live": "text"},
     "numbers": {"kind_things": "book", "hull_numbers": "book", "beside_numbers": "book", "turned_kinds": "book"},
 }
 
@@ -123,6 +139,16 @@ CLASSES = {
     "bothrooms": {"BothRoom": ("book leads falls", "book size leads falls")},
     "crossrooms": {"CrossRoom": ("book leads falls", "book size leads falls")},
     "doingtables": {"ProductTable": ("prime joins one", "prime size joins one")},
+    "pairrooms": {"PairRoom": ("prime table grades leads", "prime table grades leads size")},
+}
+
+# Classes that change: their parameters, attributes, and methods with parameters.
+CHANGING = {
+    "live": {"LiveBook": ("start", "prime start book standing", {
+        "do": "deed", "deeds": "", "undo": "", "redo": "", "watch_thing": "name row", "watch_row": "name row",
+        "unwatch": "name", "watched": "", "values_told": "", "told": "", "mark": "name", "marks": "", "marked": "name",
+        "carried": "name"})},
+    "desk": {"Desk": ("start", "live", {"say": "line"})},
 }
 
 
@@ -155,10 +181,36 @@ class InterfaceTest(unittest.TestCase):
                     self.assertIn("__eq__", vars(made))
                     self.assertEqual(sorted(vars(self.some_object(name))), sorted(attributes.split()))
 
+    def test_changing_classes(self):
+        for module, classes in CHANGING.items():
+            held = importlib.import_module("splitbooks." + module)
+            for name, (parameters, attributes, methods) in classes.items():
+                made = getattr(held, name)
+                self.assertEqual(made.__module__, "splitbooks." + module)
+                self.assertEqual(list(inspect.signature(made).parameters), parameters.split())
+                self.assertTrue(set(attributes.split()) <= set(vars(made(start=("slip", 2)))))
+                for method, words in methods.items():
+                    self.assertIn(method, vars(made))
+                    told = list(inspect.signature(vars(made)[method]).parameters.values())
+                    self.assertEqual([part.name for part in told[1:]], words.split())
+                    for part in told:
+                        self.assertEqual(part.kind, inspect.Parameter.POSITIONAL_OR_KEYWORD)
+                        self.assertIs(part.default, inspect.Parameter.empty)
+        desk = importlib.import_module("splitbooks.desk").Desk(start=("group", 3, [[0, 1], [1, 0]]))
+        live = desk.live
+        live.do(deed=("other",))
+        live.watch_thing(name="a", row=[1, 2])
+        live.watch_row(row=[1, 1], name="b")
+        live.mark(name="m")
+        self.assertEqual((live.marked(name="m"), live.carried(name="m")), (live.book, ("thing", ((1, 0), (0, 1)))))
+        live.unwatch(name="a")
+        self.assertEqual(desk.say(line="size"), "2")
+
     def some_object(self, name):
         book = families.group_book(3, [[0, 1], [1, 0]])
         return {"Splitbook": book, "Room": own_room(book), "BothRoom": free_both(book, 1),
-                "CrossRoom": turning_cross(book), "ProductTable": book_table(book)}[name]
+                "CrossRoom": turning_cross(book), "ProductTable": book_table(book),
+                "PairRoom": things_room(3, [[0, 1], [1, 0]])}[name]
 
     def test_parameters_by_name(self):
         book = families.group_book(table=[[0, 1], [1, 0]], prime=3)
@@ -169,7 +221,8 @@ class InterfaceTest(unittest.TestCase):
                   "falls": book.splits, "both": free_both(book, 2), "many": 2, "cross": turning_cross(book), "side": 1,
                   "more": [(0, 1)], "moves": [[0, 1], [0, 1]], "turns": [[0, 0], [1, 1]], "doing": turning_doing(book),
                   "wide": 2, "joins": [[[1]]], "strands": 2, "braid": [1, 1], "orders": [(1, 0), (0, 1)],
-                  "weigher": (0, 1), "crossing": ((2, 2), (2, 1))}
+                  "weigher": (0, 1), "crossing": ((2, 2), (2, 1)), "cut": [[1, -1]], "pair": (0, 1), "letters": "st",
+                  "way": (1, 2), "size": 3, "start": ("slip", 2), "deed": ("other",), "live": LiveBook(("slip", 2))}
         of_modules = {
             "besides": {"one": own_room(book), "other": own_room(book)},
             "alongs": {"one": own_room(book), "other": own_room(book)},
@@ -186,13 +239,17 @@ class InterfaceTest(unittest.TestCase):
             "braids": {"table": [[0, 1], [1, 0]], "row": [0, 1]}, "freewords": {"one": [1], "other": [-1]},
             "weaves": {"one": own_room(book), "other": own_room(book), "square": ((2, 2), (2, 1))},
             "ribbons": {"square": ((2, 2), (2, 1))},
-            "closings": {"square": ((2, 2), (2, 1)), "room": count_room(book)}}
+            "closings": {"square": ((2, 2), (2, 1)), "room": count_room(book)},
+            "grouppairs": {"table": [[0, 1], [1, 0]], "thing": 1},
+            "pairrooms": {"table": [[0, 1], [1, 0]], "thing": 1, "room": things_room(3, [[0]])}, "live": {"thing": ("other",)}}
         special = {"convolved": {"first": book.back, "second": book.back}, "convolved_back": {"first": book.back},
                    "squares_joined": {"first": book.back, "second": book.back}, "betweens": {"second": (1, 0)},
                    "crossing_undone": {"square": ((1, 0), (0, 0))}, "crossing_thing": {"square": ((1, 0), (0, 0))},
                    "crossing_cross": {"square": ((1, 0), (0, 0))}, "table_fault": {"one": [1]},
                    "cross_of": {"room": count_room(double(book))},
-                   "function_twists": {"table": [[0, 1], [1, 0]]}, "told_by_kept": {"guest": (1, 0, 0, 2)},
+                   "function_twists": {"table": [[0, 1], [1, 0]]}, "is_cut": {"thing": [[1, -1]]},
+                   "book_of_text": {"text": book_text(book)}, "start_of_text": {"text": "slip 2"},
+                   "deed_of_text": {"text": "other"}, "led_live": {"text": "live slip 2"}, "told_by_kept": {"guest": (1, 0, 0, 2)},
                    "what_is_wrong": {"joins": [[[1]]], "one": [1], "splits": [[[1]]], "counts": [1]}}
         for module, functions in INTERFACE.items():
             held = importlib.import_module("splitbooks." + module)
@@ -204,7 +261,10 @@ class InterfaceTest(unittest.TestCase):
                     named.update(special.get(name, {}))
                     found = getattr(held, name)(**named)
                     again = getattr(held, name)(*[named[word] for word in parameters.split()])
+                    if name == "led_live":
+                        found, again = found.book, again.book
                     self.assertEqual(found, again)
+        self.assertEqual(pairrooms.PairRoom(leads=[[[1]]], grades=[0], table=[[0]], prime=3), things_room(3, [[0]]))
         self.assertEqual(rooms.Room(leads=book.joins, book=book), own_room(book))
         self.assertEqual(bothrooms.BothRoom(falls=book.splits, leads=book.joins, book=book), free_both(book, 1))
         self.assertEqual(crossrooms.CrossRoom(falls=book.splits, leads=[[[1, 0], [0, 1]]] * 2, book=book).size, 2)

@@ -166,7 +166,7 @@ class PairRoomsTest(Case):
                     self.assertNotEqual(PairRoom(room.prime, room.table, room.grades, leads), room)
                 else:
                     self.refused(BadLeads, part, PairRoom, room.prime, room.table, room.grades, leads)
-        self.assertEqual(told, {None, 0, "joined"})
+        self.assertEqual(told, {None, 0, "joined", "grade"})
 
     def test_wrong_grades_told(self):
         seen = set()
