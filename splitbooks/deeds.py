@@ -8,7 +8,7 @@ from splitbooks.tables import rows_paired
 from splitbooks.twists import twisted
 from splitbooks.values import is_listing, is_number_within, is_square, rows_of
 
-LENGTHS = {"other": 1, "joins": 1, "splits": 1, "double": 1, "basis": 2, "twist": 2, "beside": 2}
+LENGTHS = (("other", 1), ("joins", 1), ("splits", 1), ("double", 1), ("basis", 2), ("twist", 2), ("beside", 2))
 MOST_ROWS = 16
 
 

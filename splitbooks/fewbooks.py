@@ -60,7 +60,7 @@ def _book_of(prime, entry):
     if word == "rows":
         return other_way(bracket_book(prime, [[[0]]], [[rest]]))
     if word == "field":
-        return _field_of(prime, rest).book()
+        return _field_of(prime, rest).book_made()
     return shift_book(prime, 2, rest)
 
 

@@ -21,7 +21,7 @@ class FieldBook:
         self.prime = prime
         self.table = table
         self.alone = alone
-        self.lot = lot
+        self.moved = lot
         self.size = len(table)
         self.field = GreaterField(prime, rootless_numbers(prime, len(lot)))
 
@@ -29,30 +29,30 @@ class FieldBook:
         """The row of what is led by number and its alike ones, from the thing of the group ahead of number on."""
         if thing in self.alone:
             return tuple([self.field.trace(number) * more for more in unit(self.size, self.alone.index(thing))])
-        return (0,) * len(self.alone) + self.field.turned(number, -self.lot.index(thing))
+        return (0,) * len(self.alone) + self.field.turned(number, -self.moved.index(thing))
 
     def joined(self, first, second):
         """The row to which two numbers of the lot are joined."""
         total = (0,) * self.size
-        for at, thing in enumerate(self.lot):
+        for at, thing in enumerate(self.moved):
             number = self.field.joiner.joined(first, self.field.turned(second, at))
-            total = combined([1, 1], [total, self.row(self.table[self.lot[0]][thing], number)], self.prime)
+            total = combined([1, 1], [total, self.row(self.table[self.moved[0]][thing], number)], self.prime)
         return total
 
-    def joins(self):
+    def joins_made(self):
         """The cube of joined things: those that stand for themselves, and then 1, t, .. of the lot."""
         numbers = plain(self.field.digits)
         places = [unit(self.size, at) for at in range(len(self.alone))]
         rows = []
         for one in self.alone:
             near = [places[self.alone.index(self.table[one][other])] for other in self.alone]
-            rows.append(near + [self.row(self.table[one][self.lot[0]], number) for number in numbers])
+            rows.append(near + [self.row(self.table[one][self.moved[0]], number) for number in numbers])
         for number in numbers:
-            near = [self.row(self.table[self.lot[0]][other], number) for other in self.alone]
+            near = [self.row(self.table[self.moved[0]][other], number) for other in self.alone]
             rows.append(near + [self.joined(number, other) for other in numbers])
         return rows
 
-    def splits(self):
+    def splits_made(self):
         """The squares of splits of the same things."""
         near = len(self.alone)
         duals = self.field.duals()
@@ -68,12 +68,12 @@ class FieldBook:
             squares.append(square)
         return squares
 
-    def book(self):
+    def book_made(self):
         """The splitbook of these things."""
         counts = [1] * len(self.alone) + self.field.traces
-        return Splitbook(self.prime, self.joins(), unit(self.size, 0), self.splits(), counts)
+        return Splitbook(self.prime, self.joins_made(), unit(self.size, 0), self.splits_made(), counts)
 
-    def rows(self):
+    def rows_beyond(self):
         """Rows of the book: those that tell of one thing that stands for itself, and then 1, t, .. of the lot."""
         near = len(self.alone)
         found = [unit(self.size, at) for at in range(near)]
@@ -123,5 +123,5 @@ def field_likeness(kept, book):
     # The numbers beyond the field come to be rows of the book; likenesses of the rows are read across.
     root = _root_within(rows, lot, kept.field.last)
     images = near + [lot, root, joiner.joined(root, root)]
-    led = led_all(inverse(kept.rows(), prime), images[:book.size], prime)
+    led = led_all(inverse(kept.rows_beyond(), prime), images[:book.size], prime)
     return inverse(across(led), prime)

@@ -22,13 +22,13 @@ class Relations:
 
     def __init__(self, modulus, width):
         self.modulus = modulus
-        self.rows = [[modulus if at == place else 0 for at in range(width)] for place in range(width)]
+        self.kept_rows = [[modulus if at == place else 0 for at in range(width)] for place in range(width)]
 
     def take(self, row):
         """A further row is wanted to have the sum 0."""
         modulus = self.modulus
         rest = [number % modulus for number in row]
-        for place, have in enumerate(list(self.rows)):
+        for place, have in enumerate(list(self.kept_rows)):
             if rest[place]:
                 found, x, y = shared_factor(have[place], rest[place])
                 one = have[place] // found
@@ -36,12 +36,12 @@ class Relations:
                 kept = [(x * more + y * number) % modulus for more, number in zip(have, rest)]
                 # This number alone may be the modulus itself.
                 kept[place] = found
-                self.rows[place] = kept
+                self.kept_rows[place] = kept
                 rest = [(one * number - other * more) % modulus for more, number in zip(have, rest)]
 
     def many_choices(self):
         """How many choices of numbers from 0 to modulus - 1 have the sum 0 with each row."""
         many = 1
-        for place, row in enumerate(self.rows):
+        for place, row in enumerate(self.kept_rows):
             many = many * row[place]
         return many

@@ -5,14 +5,14 @@ from splitbooks.errors import BadStart
 from splitbooks.families import group_book, shift_book, slip_book
 from splitbooks.values import cube_of, rows_of
 
-LENGTHS = {"group": 3, "shift": 4, "slip": 2, "brackets": 4}
+LENGTHS = (("group", 3), ("shift", 4), ("slip", 2), ("brackets", 4))
 
 
 def is_worded(value, lengths):
-    """Whether value is a tuple with one of the words first, and as many items as the dict lengths tells for it."""
+    """Whether value is a tuple with a word first, which lengths has in a pair with the number of its items."""
     if not isinstance(value, tuple) or len(value) == 0 or not isinstance(value[0], str):
         return False
-    return value[0] in lengths and len(value) == lengths[value[0]]
+    return (value[0], len(value)) in lengths
 
 
 def book_of_start(start):

@@ -561,11 +561,47 @@ def target_faults(source):
     return told
 
 
+def level_tables(source):
+    """The names at module level to which lists and dicts are assigned."""
+    return {node.targets[0].id for node in source.tree.body if isinstance(node, ast.Assign)
+            and isinstance(node.targets[0], ast.Name) and isinstance(node.value, (ast.List, ast.Dict))}
+
+
+def table_faults(source, sources):
+    """L15: lists and dicts at module level are only read: by an index, by iteration, by `in`, or as a copy."""
+    told = []
+    by_name = {f"{PACKAGE}.{other.name[:-3]}": other for other in sources}
+    tables = set(level_tables(source))
+    for node in source.nodes(ast.ImportFrom):
+        if node.module in by_name:
+            tables |= {alias.name for alias in node.names} & level_tables(by_name[node.module])
+    for node in source.nodes(ast.Name):
+        if node.id in tables and isinstance(node.ctx, ast.Load) and not is_only_read(source, node):
+            told.append(source.told("L15", node, f"{node.id} is passed on or kept, and not as a copy"))
+    return told
+
+
+def is_only_read(source, node):
+    """Whether a list or dict stands where it is read, and neither changed nor passed on."""
+    parent = source.parent[node]
+    if isinstance(parent, (ast.For, ast.comprehension)):
+        return parent.iter is node
+    if isinstance(parent, ast.Subscript):
+        return parent.value is node and isinstance(parent.ctx, ast.Load)
+    if isinstance(parent, ast.Compare):
+        return True
+    if isinstance(parent, ast.Attribute):
+        return parent.attr in {"get", "items", "keys", "values", "index", "count"}
+    if isinstance(parent, ast.Call) and isinstance(parent.func, ast.Name) and node in parent.args:
+        return parent.func.id in KEPT_ONCE | {"len", "dict", "enumerate", "reversed", "zip"}
+    return False
+
+
 def source_faults(source, sources):
     """All that the rules have against one file."""
     return (sign_faults(source) + import_faults(source, sources) + level_faults(source)
             + class_faults(source, sources) + statement_faults(source) + call_faults(source, sources)
-            + walker_faults(source)
+            + walker_faults(source) + table_faults(source, sources)
             + name_faults(source) + own_name_faults(source) + target_faults(source))
 
 
