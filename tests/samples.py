@@ -7,6 +7,8 @@ import random
 from splitbooks.bases import beside, in_basis, joins_turned, other_way, splits_turned
 from splitbooks.brackets import bracket_book
 from splitbooks.families import group_book, shift_book, slip_book
+from splitbooks.fewbooks import few_books
+from splitbooks.twists import led_twist, twisted
 from tests import plainly
 
 
@@ -190,6 +192,11 @@ def large_books():
     }
 
 
+def twisted_by(book, thing):
+    """The book twisted by what a thing, that can be undone, makes of the pair of one and one."""
+    return twisted(book, led_twist(book, plainly.pair(book.prime, book.one, book.one), thing))
+
+
 @functools.lru_cache(None)
 def more_books():
     """All of books(), some over large primes, and some with several kinds, walls or fading steps."""
@@ -206,6 +213,11 @@ def more_books():
         "six over 3": group_book(3, SIX),
         "shift 2 over 97": shift_book(97, 2, 96),
         "brackets 7": bracket_book(7, [[[0]]], [[1]]),
+        "three beyond 7": few_books(7, 3)[1],
+        "four beyond 5": few_books(5, 4)[4],
+        "four turns beyond 3": few_books(3, 4)[2],
+        "shift 2 over 3, twisted": twisted_by(shift_book(3, 2, 2), (1, 1, 0, 0)),
+        "slip 2, other way, twisted": twisted_by(other_way(slip_book(2)), (1, 1, 1, 0)),
     }
     for name, book in more.items():
         found[name] = book
