@@ -97,6 +97,30 @@ class FewCountsTest(Case):
                         many += what_is_wrong(prime, joins, one, splits, counts) is None
             self.assertEqual(few_counts(prime, 2), many)
 
+    def test_counted_of_three_things(self):
+        """Over 2 and 3, with thing 0 as one and counts that tell of it alone: all other choices are as many."""
+        for prime in (2, 3):
+            cubes = [self.beyond_one(numbers) for numbers in samples.all_rows(prime, 8) if self.may_be_grouped(numbers, prime)]
+            many = 0
+            for joins in cubes:
+                for rows in cubes:
+                    splits = [[[rows[j][k][i] for k in range(3)] for j in range(3)] for i in range(3)]
+                    many += what_is_wrong(prime, joins, (1, 0, 0), splits, (1, 0, 0)) is None
+            # One is any thing but 0, and its count is 1.
+            self.assertEqual(few_counts(prime, 3), many * (prime ** 3 - 1) * prime ** 2)
+
+    def may_be_grouped(self, numbers, prime):
+        """Whether two things that are joined to sums of themselves may be grouped at will."""
+        cube = [[numbers[0:2], numbers[2:4]], [numbers[4:6], numbers[6:8]]]
+        return all(plainly.join(prime, cube, cube[i][j], samples.unit(2, k))
+                   == plainly.join(prime, cube, samples.unit(2, i), cube[j][k])
+                   for i in range(2) for j in range(2) for k in range(2))
+
+    def beyond_one(self, numbers):
+        """The joins of thing 0 as one and of two further things."""
+        return [[samples.unit(3, i + j) if i * j == 0 else (0,) + tuple(numbers[4 * i + 2 * j - 6:4 * i + 2 * j - 4])
+                 for j in range(3)] for i in range(3)]
+
     def test_refused(self):
         self.wants_books(self_likenesses, 1)
         for book in (group_book(2, samples.cyclic(4)), slip_book(2), group_book(3, samples.cyclic(5))):

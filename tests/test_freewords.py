@@ -172,6 +172,23 @@ class FreeWordsTest(Case):
         self.refused(TooMany, 20000, are_alike_braids, 3, back, [])
         self.refused(BadBraid, None, are_alike_braids, 3, back, None)
 
+    def test_limit_to_the_number(self):
+        """Words that have together 20000 numbers, and words that have one or two more."""
+        just = [-2, 1, 1, -2, 1, 2, -2, -3, 1, 2, -3, -2, 2, -1, 2, -3, 1, 2, -3, -3, -3, -1, -1, 3, 2, -3, -1, -2, -1, -3, -1, -3, 2]
+        self.assertEqual(words_plainly(4, just)[1], 20000)
+        self.assertEqual(words_led(4, just), words_plainly(4, just)[0])
+        self.assertIs(are_alike_braids(4, just, just), True)
+        self.assertIs(is_parting(4, just, just[:-1], parting_orders(4, just, just[:-1])), True)
+        more = [1, 3, -2, -2, 1, 4, 3, 2, -3, 2, 2, -4, -4, 2, -4, -1, -2, -2, 2, -2, 2, -1, -2, 1, 1, -2, -2, 3, 2, -2, -2, 3, -1, -2,
+                3, -2]
+        two = [3, 1, 2, -2, 3, 2, -3, -3, -2, -1, 2, 1, 1, 2, -2, 1, -1, -2, 3, 1, -1, 1, -2, -1, 3, -2, 1, -2, -2, 1, -3, 2, -3, 2,
+               1, -3, -3, -3]
+        for strands, braid, most in ((5, more, 20001), (4, two, 20002)):
+            self.assertEqual(words_plainly(strands, braid)[1], most)
+            self.refused(TooMany, 20000, words_led, strands, braid)
+            self.refused(TooMany, 20000, are_alike_braids, strands, [], braid)
+            self.refused(TooMany, 20000, parting_orders, strands, braid, [])
+
     def test_just_at_the_limit(self):
         """The greatest words that are let in, and long orders that part them."""
         for many in range(1, 41):
